@@ -1,0 +1,1 @@
+"""Slotsums: sums of products of tables, judged for all sizes."""
