@@ -5,6 +5,7 @@ import random
 import unittest
 from fractions import Fraction
 
+from slotsums.expressions import Expression
 from slotsums.ratios import Ratio
 from slotsums.stores import Store
 from slotsums.tables import Table
@@ -20,7 +21,7 @@ def wrong_values():
     return [None, True, False, -1, 0, 1, 9, "", "x", "row", "two words", "1", "nineletts", b"x", [], (), {}, [None],
             (None,), [True], (True,), (1,), [1], ("x",), ["x"], (1, 2), [1, 2], ("x", "row"), ["x", "row"],
             (("x", "row"),), [("x", "row")], {"x": 1}, {"row": True}, {1: 1}, {(0,): 1}, {"x": "y"}, Thing(),
-            Ratio(1, 2), Ratio(1), Table("Z", ["row"]), Store({}), Term([], []), int, len,
+            Ratio(1, 2), Ratio(1), Table("Z", ["row"]), Store({}), Term([], []), Expression([], []), int, len,
             ((0, 1), 1), ([0, 1], 1), (1, {}), (1, {"i": "i"}), ("empty", 0), ("odd", {}), range(2)]
 
 
@@ -62,6 +63,20 @@ def searched_term(term, store):
         told = tuple(given[name] for name, sort in term.told())
         found[told] = found.get(told, 0) + value
     return found
+
+
+def searched(expression, store):
+    """The values of an expression other than 0, by going through all assignments."""
+    found = {}
+    for term in expression.terms():
+        for told, value in searched_term(term, store).items():
+            found[told] = found.get(told, 0) + value
+    return {told: value for told, value in found.items() if value}
+
+
+def told_places(expression, store):
+    """All told places of an expression in a store."""
+    return list(itertools.product(*[range(store.size(sort)) for sort in expression.sorts()]))
 
 
 def image(row, order):
@@ -133,6 +148,12 @@ def random_term(chance, tables, most_names=4, most_factors=4, most_told=3, told_
     told = [(chance.choice(pool[sort]), sort) for sort in told_sorts]
     number = chance.choice([1, -1, 2, 3, Ratio(1, 2), Ratio(-2, 3), 0])
     return Term(told, factors, number)
+
+
+def random_expression(chance, tables, told_sorts, most_terms=3, **limits):
+    """An expression with these told sorts."""
+    many = chance.randint(0, most_terms)
+    return Expression(told_sorts, [random_term(chance, tables, told_sorts=told_sorts, **limits) for _ in range(many)])
 
 
 def random_store(chance, tables, sizes, dense=0.6):

@@ -208,6 +208,10 @@ class LanguageTest(unittest.TestCase):
         """Each function and class of the interface is defined in its file, each method in its class."""
         listed = {
             "ratios": ["is_number", "Ratio"], "tables": ["Table"], "stores": ["Store"], "terms": ["Term"],
+            "expressions": ["Expression"], "values": ["value_of", "value_at"],
+            "products": ["product_of", "summed_over", "row_turned", "doubled_at", "held_equal", "spread_along"],
+            "renamings": ["renaming_of", "is_renaming", "renaming_count"],
+            "shapes": ["is_nought", "why_nought", "is_why_nought", "one_shape"], "forms": ["one_form", "are_alike"],
         }
         members = {
             "Ratio": "top bottom sign over is_below total __add__ __sub__ __mul__ __neg__ __eq__ __str__ __repr__",

@@ -1,0 +1,71 @@
+"""The values of expressions in stores."""
+
+from slotsums.agreement import check_tables
+from slotsums.errors import InvalidPlaces, UnknownSort
+from slotsums.joins import all_joined, factor_table, lone_table, whole_entries
+from slotsums.kinds import are_below, are_counts
+from slotsums.ratios import Ratio
+
+
+def check_store(expression, store):
+    """Refuse a store that lacks a sort of the expression or has an unlike table of one name."""
+    sizes = store.sizes()
+    for sort in expression.all_sorts():
+        if sort not in sizes:
+            raise UnknownSort(sort)
+    check_tables(expression.tables() + store.tables())
+
+
+def term_values(term, store, whole, fixed):
+    """A dict from told places, where the fixed names have their places, to the values of a term."""
+    told = term.told_names()
+    place_tables = [lone_table(name, store.size(term.sort_of(name)), fixed) for name in term.lone_names()]
+    bottom = term.number.bottom
+    for table, names in term.factors():
+        scale, rows = whole[table.name]
+        bottom = bottom * scale
+        place_tables.append(factor_table(names, rows, fixed))
+    names, sums = all_joined(place_tables, told)
+    row_at = [names.index(name) for name, sort in term.told()]
+    found = {}
+    for places, number in sums.items():
+        found[tuple([places[at] for at in row_at])] = Ratio(number * term.number.top, bottom)
+    return found
+
+
+def all_values(expression, store, fixed_of_terms):
+    """A dict from told places to the sums of the values of some terms, for each of which names are fixed."""
+    whole = {table.name: whole_entries(table, store) for table in expression.tables()}
+    found = {}
+    for term, fixed in fixed_of_terms:
+        if term.number.sign != 0:
+            for places, value in term_values(term, store, whole, fixed).items():
+                found[places] = value + found.get(places, 0)
+    return found
+
+
+def fixed_names(term, places):
+    """The places that told places give the names of a term; None if a name would have two."""
+    fixed = {}
+    for (name, sort), place in zip(term.told(), places):
+        if fixed.setdefault(name, place) != place:
+            return None
+    return fixed
+
+
+def value_of(expression, store):
+    """A dict from all told places with a value other than 0 to their values."""
+    check_store(expression, store)
+    found = all_values(expression, store, [(term, {}) for term in expression.terms()])
+    return {places: found[places] for places in sorted(found) if found[places].sign != 0}
+
+
+def value_at(expression, store, places):
+    """The value of the expression at told places."""
+    check_store(expression, store)
+    sizes = [store.size(sort) for sort in expression.sorts()]
+    if not are_counts(places, len(sizes)) or not are_below(places, sizes):
+        raise InvalidPlaces(places)
+    fixed = [(term, fixed_names(term, places)) for term in expression.terms()]
+    found = all_values(expression, store, [pair for pair in fixed if pair[1] is not None])
+    return found.get(places, Ratio(0))
