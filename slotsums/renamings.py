@@ -48,8 +48,7 @@ def is_renaming(one, other, value):
     sign, names = value
     if [(names[name], sort) for name, sort in one.told()] != list(other.told()):
         return False
-    if not all([one.sort_of(name) == other.sort_of(names[name]) for name in one.names()]):
-        return False
+    # The told row and the slots of the tables say the sort of each name, so sorts are kept.
     one_sign, ones = least_factors(one, names)
     other_sign, others = least_factors(other, {name: name for name in other.names()})
     # With an empty factor the product of the signs is 0, and there is no renaming.

@@ -111,7 +111,6 @@ class Table:
 
     def renamed(self, name):
         """This table with another name."""
-        check_name(name)
         return Table(name, self._slots, *self._group)
 
     def __eq__(self, other):

@@ -74,7 +74,9 @@ class RatioTest(Case):
     def test_equal(self):
         self.assertTrue(Ratio(2, 4) == Ratio(1, 2))
         self.assertFalse(Ratio(2, 4) != Ratio(1, 2))
-        self.assertTrue(Ratio(1, 2) != Ratio(-1, 2))
+        for one, other in ((Ratio(1, 2), Ratio(-1, 2)), (Ratio(1, 2), Ratio(1, 3)), (Ratio(2, 5), Ratio(3, 5))):
+            self.assertFalse(one == other)
+            self.assertTrue(one != other)
         for other in (1, "1", None, True, Fraction(1), (1, 1), Thing()):
             self.assertFalse(Ratio(1) == other)
             self.assertFalse(other == Ratio(1))

@@ -78,6 +78,8 @@ class NoughtTest(Case):
                             (True, False), (False, False), (None, False), ("2", False), ([2], False)):
             self.assertIs(is_why_nought(term, ("empty", value)), want)
         self.assertIs(is_why_nought(term, ("odd", {"i": "j", "j": "i"})), False)
+        for word in ("odd", "even", "", None, 0, True, b"empty", ["empty"], ("empty",)):
+            self.assertIs(is_why_nought(term, (word, 2)), False)
 
     def test_three_slots(self):
         self.assertIs(is_nought(Term([], [(W, ("i", "j", "k"))])), True)
@@ -195,6 +197,15 @@ class OneShapeTest(Case):
         self.assertIs(is_nought(ring(T, 3)), True)
         self.assertIs(is_nought(ring(T, 4, 3)), True)
         self.assertIs(is_nought(ring(T, 2, 4)), False)
+
+    def test_blocks_of_four(self):
+        """Terms in which some exchanges of names keep all factors, but not those names that were told apart before."""
+        chance = seeded(22)
+        four = Table("G", ["r"] * 4, ((1, 0, 3, 2), 1), ((2, 3, 0, 1), 1))
+        for blocks in ("feac bead cfdb", "cabe eadf dfcb", "abcd abcd efga", "abcd badc efab"):
+            term = Term([], [(four, tuple(block)) for block in blocks.split()])
+            shapes = [one_shape(disguised(chance, term)[1]) for _ in range(60)]
+            self.assertEqual(shapes, shapes[:1] * 60)
 
     def test_no_names(self):
         self.assertEqual(one_shape(Term([], [], 9)), (1, Term([], [])))
