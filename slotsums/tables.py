@@ -80,6 +80,14 @@ class Table:
         """The name of the table."""
         return self._name
 
+    @name.setter
+    def name(self, value):
+        """Refuse the value, whatever it is, as without a setter: a table does not change.
+
+        The setter stands here since errors have an attribute of this name, which they assign.
+        """
+        raise AttributeError("the name of a table does not change")
+
     @property
     def changes_sign(self):
         """Whether a turn of the group has the sign -1."""

@@ -2,8 +2,9 @@
 
 import inspect
 
-from helpers import Case
+from helpers import Case, Thing
 from slotsums import errors
+from slotsums.ratios import Ratio
 
 VALUE_ERRORS = {
     "InvalidNumber": ["value"], "InvalidName": ["value"], "InvalidCount": ["value"], "InvalidSlots": ["position"],
@@ -57,6 +58,19 @@ class ErrorsTest(Case):
         for value in (None, [1], {"a": 2}, True, "text", object()):
             self.assertIs(errors.InvalidNumber(value).value, value)
             self.assertIs(errors.UnknownName(value).value, value)
+
+    def test_name_attributes(self):
+        """The attribute `name` is what was passed, of whatever kind, and no two errors share it."""
+        for kind in (errors.OtherSort, errors.OtherTable, errors.OtherNames, errors.Vanishing, errors.ChangesSign,
+                     errors.UnknownSort, errors.NameTaken):
+            for value in ("row", "", None, True, 7, ("a", 1), [1], {"a": 2}, Ratio(1, 2), Thing()):
+                self.assertIs(kind(value).name, value)
+                self.assertIs(kind(name=value).name, value)
+            self.assertEqual(vars(kind("row")), {"name": "row"})
+            first, second = kind("row"), kind("column")
+            self.assertEqual((first.name, second.name), ("row", "column"))
+            first.name = "shop"
+            self.assertEqual((first.name, second.name), ("shop", "column"))
 
     def test_caught(self):
         """They can be caught by the classes of Python."""
