@@ -1,6 +1,7 @@
 """What expressions, terms and stores that meet must agree in, and how much of each kind is allowed."""
 
-from slotsums.errors import OtherSorts, OtherTable, TooMany
+from slotsums.errors import InvalidSizes, OtherSorts, OtherTable, TooMany, UnknownSort
+from slotsums.kinds import are_sizes
 
 MOST_TOLD = 8
 MOST_FACTORS = 7
@@ -24,6 +25,26 @@ def check_same_sorts(one, other):
     for position in range(max(len(one), len(other))):
         if position >= min(len(one), len(other)) or one[position] != other[position]:
             raise OtherSorts(position)
+
+
+def check_agree(one, other):
+    """Refuse two expressions with different told sorts or with unlike tables of one name."""
+    check_same_sorts(one.sorts(), other.sorts())
+    check_tables(one.tables() + other.tables())
+
+
+def sorts_of_all(expressions):
+    """The sorted list of all sorts of some expressions."""
+    return sorted({sort for expression in expressions for sort in expression.all_sorts()})
+
+
+def check_sizes(sizes, sorts):
+    """Refuse what is no SIZES, and SIZES that lack one of some sorted sorts."""
+    if not are_sizes(sizes):
+        raise InvalidSizes(sizes)
+    for sort in sorts:
+        if sort not in sizes:
+            raise UnknownSort(sort)
 
 
 def check_limits(told, factors, names, terms):

@@ -1,6 +1,6 @@
 """The one form of an expression."""
 
-from slotsums.agreement import check_same_sorts, check_tables
+from slotsums.agreement import check_agree
 from slotsums.expressions import Expression
 from slotsums.shapes import keyed_shape
 
@@ -22,6 +22,5 @@ def one_form(expression):
 
 def are_alike(one, other):
     """Whether two expressions have the same values in all stores of all sizes."""
-    check_same_sorts(one.sorts(), other.sorts())
-    check_tables(one.tables() + other.tables())
+    check_agree(one, other)
     return one_form(one) == one_form(other)

@@ -5,6 +5,7 @@ from slotsums.errors import InvalidPlaces, UnknownSort
 from slotsums.joins import all_joined, factor_table, lone_table, whole_entries
 from slotsums.kinds import are_below, are_counts
 from slotsums.ratios import Ratio
+from slotsums.turnings import turned
 
 
 def check_store(expression, store):
@@ -16,26 +17,39 @@ def check_store(expression, store):
     check_tables(expression.tables() + store.tables())
 
 
-def term_values(term, store, whole, fixed):
-    """A dict from told places, where the fixed names have their places, to the values of a term."""
-    told = term.told_names()
+def tables_of_names(term, store, whole, fixed):
+    """A tuple (bottom, place tables): those of the lone names and of the factors, in integers over the bottom."""
     place_tables = [lone_table(name, store.size(term.sort_of(name)), fixed) for name in term.lone_names()]
-    bottom = term.number.bottom
+    bottom = 1
     for table, names in term.factors():
         scale, rows = whole[table.name]
         bottom = bottom * scale
         place_tables.append(factor_table(names, rows, fixed))
-    names, sums = all_joined(place_tables, told)
+    return bottom, place_tables
+
+
+def at_told_places(term, sums, bottom):
+    """A dict from told places to values, for the place table of the told names in integers over the bottom."""
+    names, rows = sums
     row_at = [names.index(name) for name, sort in term.told()]
-    found = {}
-    for places, number in sums.items():
-        found[tuple([places[at] for at in row_at])] = Ratio(number * term.number.top, bottom)
-    return found
+    number, all_bottom = term.number.top, bottom * term.number.bottom
+    return {turned(places, row_at): Ratio(rows[places] * number, all_bottom) for places in rows}
+
+
+def term_values(term, store, whole, fixed):
+    """A dict from told places, where the fixed names have their places, to the values of a term."""
+    bottom, place_tables = tables_of_names(term, store, whole, fixed)
+    return at_told_places(term, all_joined(place_tables, term.told_names()), bottom)
+
+
+def all_whole_entries(tables, store):
+    """A dict from the names of tables to their whole entries."""
+    return {table.name: whole_entries(table, store) for table in tables}
 
 
 def all_values(expression, store, fixed_of_terms):
     """A dict from told places to the sums of the values of some terms, for each of which names are fixed."""
-    whole = {table.name: whole_entries(table, store) for table in expression.tables()}
+    whole = all_whole_entries(expression.tables(), store)
     found = {}
     for term, fixed in fixed_of_terms:
         if term.number.sign != 0:
@@ -53,11 +67,15 @@ def fixed_names(term, places):
     return fixed
 
 
+def without_noughts(values):
+    """The values other than 0, by their places in sorted sequence."""
+    return {places: values[places] for places in sorted(values) if values[places].sign != 0}
+
+
 def value_of(expression, store):
     """A dict from all told places with a value other than 0 to their values."""
     check_store(expression, store)
-    found = all_values(expression, store, [(term, {}) for term in expression.terms()])
-    return {places: found[places] for places in sorted(found) if found[places].sign != 0}
+    return without_noughts(all_values(expression, store, [(term, {}) for term in expression.terms()]))
 
 
 def value_at(expression, store, places):

@@ -186,3 +186,50 @@ def disguised(chance, term, letters="pqrstuvwxyz"):
 def seeded(number):
     """A source of chance that gives the same in each run."""
     return random.Random(number)
+
+
+def searched_partitions(term):
+    """All partitions of the names of a term, as sorted lists of sorted blocks: by all ways to put names into blocks."""
+    names = term.names()
+    found = set()
+    for row in itertools.product(range(len(names)), repeat=len(names)):
+        blocks = {}
+        for name, block in zip(names, row):
+            blocks.setdefault(block, []).append(name)
+        if all(len({term.sort_of(name) for name in block}) == 1 for block in blocks.values()):
+            found.add(tuple(sorted(tuple(block) for block in blocks.values())))
+    return sorted(found)
+
+
+def searched_quotient(term, partition):
+    """The term in which the names of each block are one name, the first one."""
+    names = {name: min(block) for block in partition for name in block}
+    return Term([(names[name], sort) for name, sort in term.told()],
+                [(table, tuple(names[name] for name in own)) for table, own in term.factors()], term.number)
+
+
+def searched_unlike(term, store):
+    """The unlike values of a term other than 0, by all assignments in which unlike names have unlike places."""
+    found = {}
+    sorts = {name: term.sort_of(name) for name in term.names()}
+    for given in assignments(sorts, store.sizes()):
+        if len({(sorts[name], place) for name, place in given.items()}) < len(given):
+            continue
+        value = fraction(term.number)
+        for table, names in term.factors():
+            value *= fraction(store.entry(table, tuple(given[name] for name in names)))
+        told = tuple(given[name] for name, sort in term.told())
+        found[told] = found.get(told, 0) + value
+    return {told: value for told, value in found.items() if value}
+
+
+def as_fractions(values):
+    """A dict of Ratios as one of Fractions."""
+    return {key: fraction(value) for key, value in values.items()}
+
+
+def many_partitions(extra=0):
+    """Terms with the number 0 that have 4,000 partitions together, and some more."""
+    sizes = [7] * 4 + [6] * 2 + [5] + [4] * 2 + [2] * 2 + [0] * extra
+    table = Table("V", ["r"])
+    return [Term([], [(table, (name,)) for name in "abcdefg"[:size]], 0) for size in sizes]

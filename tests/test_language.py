@@ -15,7 +15,7 @@ isupper items join keys ljust lower lstrip partition pop remove replace reverse 
 setdefault split splitlines startswith strip update upper values zfill bit_length isascii add discard""".split())
 MODIFYING = {"append", "clear", "extend", "insert", "pop", "remove", "reverse", "setdefault", "update"}
 BUILTINS = set("""len range enumerate zip min max sum abs sorted reversed int str bool list tuple dict set isinstance
-ord repr any all divmod ValueError LookupError RuntimeError property classmethod""".split())
+ord repr any all divmod ValueError LookupError RuntimeError AttributeError property classmethod""".split())
 DOUBLE = set("""__init__ __eq__ __repr__ __str__ __len__ __add__ __sub__ __mul__ __neg__""".split())
 BARRED = set("""register mro elements open input law version_info with_traceback add_note attrgetter breakpoint builtins
 compile copyright credits delattr dir eval exec exit gc getattr globals hasattr help id importlib license locals
@@ -28,7 +28,10 @@ ALLOWED = (ast.Module, ast.Expr, ast.Constant, ast.ImportFrom, ast.alias, ast.Cl
            ast.USub, ast.BinOp, ast.Add, ast.Sub, ast.Mult, ast.FloorDiv, ast.Mod, ast.Compare, ast.Eq, ast.NotEq,
            ast.Lt, ast.LtE, ast.Gt, ast.GtE, ast.Is, ast.IsNot, ast.In, ast.NotIn, ast.IfExp, ast.Tuple, ast.List,
            ast.Dict, ast.ListComp, ast.DictComp, ast.SetComp, ast.comprehension, ast.Subscript, ast.Slice,
-           ast.Starred, ast.JoinedStr, ast.FormattedValue, ast.Lambda, ast.Break, ast.Continue, ast.Pass)
+           ast.Starred, ast.JoinedStr, ast.FormattedValue, ast.Lambda, ast.Break, ast.Continue, ast.Pass,
+           ast.Yield, ast.LShift, ast.RShift, ast.BitAnd)
+
+YIELDING = {"partitions_of"}
 
 
 def files():
@@ -69,7 +72,7 @@ class LanguageTest(unittest.TestCase):
                 self.assertIsInstance(value, (ast.Constant, ast.Tuple), where)
             self.assertTrue(all(one.annotation is None for one in node.args.args), where)
             for mark in node.decorator_list:
-                self.assertIn(mark.id, ("property", "classmethod"), where)
+                self.assertIn(ast.unparse(mark), ("property", "classmethod", f"{node.name}.setter"), where)
             if node.name.startswith("__"):
                 self.assertIn(node.name, DOUBLE, where)
 
@@ -174,6 +177,39 @@ class LanguageTest(unittest.TestCase):
         stored = {node.attr for name, node in nodes(ast.Attribute) if isinstance(node.ctx, ast.Store)}
         self.assertEqual(methods & stored, {"name"})
 
+    def test_assigned_properties(self):
+        """L5: a property is assigned only if every class that has one of that name has its setter."""
+        stored = {node.attr for name, node in nodes(ast.Attribute) if isinstance(node.ctx, ast.Store)}
+        for path, node in nodes(ast.ClassDef):
+            marks = [(one.name, ast.unparse(mark)) for one in node.body if isinstance(one, ast.FunctionDef)
+                     for mark in one.decorator_list]
+            for name, mark in marks:
+                if mark == "property" and name in stored:
+                    self.assertIn((name, f"{name}.setter"), marks, f"{path} {node.name}")
+
+    def test_generators(self):
+        """L23: what yields is iterated on the spot, and nothing else has its name."""
+        own = [node.name for name, node in nodes(ast.FunctionDef)]
+        yielding = {node.name for name, node in nodes(ast.FunctionDef)
+                    if any(isinstance(one, ast.Yield) for one in ast.walk(node))}
+        self.assertEqual(yielding, YIELDING)
+        self.assertTrue(all(own.count(name) == 1 for name in yielding))
+        for path, text, tree in files():
+            parents = {child: node for node in ast.walk(tree) for child in ast.iter_child_nodes(node)}
+            for node in ast.walk(tree):
+                if isinstance(node, ast.Name) and node.id in yielding:
+                    call = parents[node]
+                    self.assertIsInstance(call, ast.Call)
+                    self.assertIs(call.func, node)
+                    self.assertIsInstance(parents[call], (ast.For, ast.comprehension), f"{path.name} {node.lineno}")
+
+    def test_stars(self):
+        """L7: behind a star in a call stand names only."""
+        for name, node in nodes(ast.Call):
+            for value in node.args:
+                if isinstance(value, ast.Starred):
+                    self.assertIsInstance(value.value, (ast.Name, ast.Attribute), f"{name} {node.lineno}")
+
     def test_sets(self):
         """L24: sets stand in `sorted(..)` or `len(..)`, or are assigned once to a local name."""
         for path, text, tree in files():
@@ -212,6 +248,10 @@ class LanguageTest(unittest.TestCase):
             "products": ["product_of", "summed_over", "row_turned", "doubled_at", "held_equal", "spread_along"],
             "renamings": ["renaming_of", "is_renaming", "renaming_count"],
             "shapes": ["is_nought", "why_nought", "is_why_nought", "one_shape"], "forms": ["one_form", "are_alike"],
+            "partitions": ["partitions_of", "quotient_of", "has_room"],
+            "quotients": ["unlike_value", "shape_count", "unlike_form", "as_plain"],
+            "sizes": ["alike_at", "least_unlike_sizes"], "differing": ["differing_store"],
+            "relations": ["relation_base", "combination_of", "weights_against", "is_weights"],
         }
         members = {
             "Ratio": "top bottom sign over is_below total __add__ __sub__ __mul__ __neg__ __eq__ __str__ __repr__",
