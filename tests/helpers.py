@@ -233,3 +233,87 @@ def many_partitions(extra=0):
     sizes = [7] * 4 + [6] * 2 + [5] + [4] * 2 + [2] * 2 + [0] * extra
     table = Table("V", ["r"])
     return [Term([], [(table, (name,)) for name in "abcdefg"[:size]], 0) for size in sizes]
+
+
+def question_tables():
+    """Tables that keep their sign."""
+    return [table for table in many_tables() if not table.changes_sign]
+
+
+def searched_maps(one, other):
+    """The list of all maps of one term to the other, by a search through all dicts from names to names."""
+    found = []
+    letters = {(table.name, searched_least(names, table.turns())[1]) for table, names in other.factors()}
+    for goal in itertools.product(other.names(), repeat=len(one.names())):
+        names = dict(zip(one.names(), goal))
+        if any(one.sort_of(old) != other.sort_of(new) for old, new in names.items()):
+            continue
+        if tuple((names[name], sort) for name, sort in one.told()) != other.told():
+            continue
+        images = [(table.name, searched_least(tuple(names[name] for name in own), table.turns())[1])
+                  for table, own in one.factors()]
+        if all(letter in letters for letter in images):
+            found.append(names)
+    return found
+
+
+def searched_answers(expression, store):
+    """The sorted list of the answers of an expression, by going through all assignments."""
+    found = set()
+    for term in expression.terms():
+        if term.number.sign:
+            for given in assignments({name: term.sort_of(name) for name in term.names()}, store.sizes()):
+                if all(store.entry(table, tuple(given[name] for name in names)).sign for table, names in term.factors()):
+                    found.add(tuple(given[name] for name, sort in term.told()))
+    return sorted(found)
+
+
+def searched_plans(positions):
+    """All plans of some positions, in no particular order: every way to part them in two."""
+    if len(positions) == 1:
+        return list(positions)
+    found = []
+    first, *others = sorted(positions)
+    for many in range(len(others)):
+        for beside in itertools.combinations(others, many):
+            rest = [position for position in others if position not in beside]
+            for one in searched_plans([first, *beside]):
+                for other in searched_plans(rest):
+                    found.append((one, other))
+    return found
+
+
+def leaves(plan):
+    """The set of the positions in a plan."""
+    return leaves(plan[0]) | leaves(plan[1]) if isinstance(plan, tuple) else {plan}
+
+
+def searched_kept(term, positions):
+    """The set of the kept names of a set of positions, by its words."""
+    inside, outside = set(), {name for name, sort in term.told()}
+    for position, (table, names) in enumerate(term.factors()):
+        (inside if position in positions else outside).update(names)
+    return inside & outside
+
+
+def volume(term, names, sizes, sliced=()):
+    """The product of the sizes of some names, 1 for the sliced ones."""
+    found = 1
+    for name in names:
+        found *= 1 if name in sliced else sizes[term.sort_of(name)]
+    return found
+
+
+def searched_cost(term, plan, sizes, sliced=()):
+    """A tuple (cost, space) of a plan, tuple by tuple."""
+    if not isinstance(plan, tuple):
+        return 0, 0
+    (one, one_space), (other, other_space) = [searched_cost(term, part, sizes, sliced) for part in plan]
+    names = searched_kept(term, leaves(plan[0])) | searched_kept(term, leaves(plan[1]))
+    own_space = volume(term, searched_kept(term, leaves(plan)), sizes, sliced)
+    return one + other + volume(term, names, sizes, sliced), max(one_space, other_space, own_space)
+
+
+def plan_key(plan):
+    """A key by which plans ascend in their order."""
+    return (1, plan_key(plan[0]), plan_key(plan[1])) if isinstance(plan, tuple) else (0, plan)

@@ -29,9 +29,9 @@ ALLOWED = (ast.Module, ast.Expr, ast.Constant, ast.ImportFrom, ast.alias, ast.Cl
            ast.Lt, ast.LtE, ast.Gt, ast.GtE, ast.Is, ast.IsNot, ast.In, ast.NotIn, ast.IfExp, ast.Tuple, ast.List,
            ast.Dict, ast.ListComp, ast.DictComp, ast.SetComp, ast.comprehension, ast.Subscript, ast.Slice,
            ast.Starred, ast.JoinedStr, ast.FormattedValue, ast.Lambda, ast.Break, ast.Continue, ast.Pass,
-           ast.Yield, ast.LShift, ast.RShift, ast.BitAnd)
+           ast.Yield, ast.LShift, ast.RShift, ast.BitAnd, ast.BitOr)
 
-YIELDING = {"partitions_of"}
+YIELDING = {"partitions_of", "all_plans"}
 
 
 def files():
@@ -101,6 +101,7 @@ class LanguageTest(unittest.TestCase):
                     imported.setdefault(path.stem, []).append(node.module.split(".")[1])
                     source = ast.parse((FOLDER / (node.module.split(".")[1] + ".py")).read_text(encoding="utf-8"))
                     defined = {getattr(one, "name", None) for one in source.body}
+                    defined |= {one.targets[0].id for one in source.body if isinstance(one, ast.Assign)}
                     self.assertLessEqual({one.name for one in node.names}, defined, path.name)
                 elif isinstance(node, (ast.ClassDef, ast.FunctionDef)):
                     names.append(node.name)
@@ -252,6 +253,12 @@ class LanguageTest(unittest.TestCase):
             "quotients": ["unlike_value", "shape_count", "unlike_form", "as_plain"],
             "sizes": ["alike_at", "least_unlike_sizes"], "differing": ["differing_store"],
             "relations": ["relation_base", "combination_of", "weights_against", "is_weights"],
+            "maps": ["term_map", "is_map", "frozen_store"],
+            "truth": ["answers_of", "contains", "least_escape_sizes", "escape_of"],
+            "cores": ["core_of", "least_question", "are_equal_questions"],
+            "plans": ["is_plan", "all_plans", "kept_names", "cost_of", "space_of"],
+            "cheapest": ["cheapest_plan", "bound_table", "is_bound_table"],
+            "slices": ["sliced_cost", "cheapest_sliced"],
         }
         members = {
             "Ratio": "top bottom sign over is_below total __add__ __sub__ __mul__ __neg__ __eq__ __str__ __repr__",
