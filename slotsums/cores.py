@@ -2,11 +2,10 @@
 
 from slotsums.asking import asked_terms, check_keep_sign, check_questions
 from slotsums.expressions import Expression
-from slotsums.maps import has_map_of_some, map_between
+from slotsums.maps import has_map_of_some, map_between, without_map_of_some
 from slotsums.rows import without
 from slotsums.shapes import keyed_shape
 from slotsums.terms import Term
-from slotsums.truth import escaping_terms
 
 
 def core_in(term):
@@ -16,7 +15,7 @@ def core_in(term):
     while position < len(found.factors()):
         shorter = Term(found.told(), without(found.factors(), position))
         if map_between(found, shorter) is None:
-            # It cannot be left out later either: what is left out ahead of it changes no answers.
+            # It cannot be left out later either: what is left out behind it changes no answers.
             position += 1
         else:
             found = shorter
@@ -29,24 +28,30 @@ def core_of(term):
     return core_in(term)
 
 
+def least_terms(terms):
+    """The one shapes of the cores of those terms that no other one contains, each once, sorted by their keys."""
+    shapes = {}
+    for term in terms:
+        # No table changes its sign, so no core is nought.
+        sign, key, shape = keyed_shape(core_in(term))
+        shapes[key] = shape
+    found = []
+    for key in sorted(shapes):
+        others = [shapes[other] for other in shapes if other != key]
+        if not has_map_of_some(others, shapes[key]):
+            found.append(shapes[key])
+    return found
+
+
 def least_question(expression):
     """The equal question with the fewest terms and, in each term, the fewest factors."""
     asked = asked_terms(expression)
     check_keep_sign(asked)
-    shapes = {}
-    for term in asked:
-        # No table changes its sign, so no core is nought.
-        sign, key, shape = keyed_shape(core_in(term))
-        shapes[key] = shape
-    staying = []
-    for key in sorted(shapes):
-        others = [shapes[other] for other in shapes if other != key]
-        if not has_map_of_some(others, shapes[key]):
-            staying.append(shapes[key])
-    return Expression(expression.sorts(), staying)
+    return Expression(expression.sorts(), least_terms(asked))
 
 
 def are_equal_questions(one, other):
     """Whether two expressions have the same answers in all stores."""
     check_questions(one, other)
-    return not escaping_terms(one, other) and not escaping_terms(other, one)
+    ones, others = asked_terms(one), asked_terms(other)
+    return not without_map_of_some(ones, others) and not without_map_of_some(others, ones)

@@ -38,7 +38,7 @@ def completed(given, waiting):
     """A dict that has what is given and brings each row of names to one of its goals; None if there is none."""
     if not waiting:
         return given
-    fitting = [(names, [goal for goal in goals if extended(given, names, goal) is not None])
+    fitting = [(names, [row for row in goals if extended(given, names, row) is not None])
                for names, goals in waiting]
     # The row with the fewest goals comes first: it fails soonest.
     many = [len(goals) for names, goals in fitting]
@@ -74,6 +74,11 @@ def has_map_of_some(terms, other):
     return False
 
 
+def without_map_of_some(terms, others):
+    """The list of those other terms to which none of the terms has a map."""
+    return [other for other in others if not has_map_of_some(terms, other)]
+
+
 def check_terms_asked(one, other):
     """Refuse two terms with unlike tables of one name, or with a table that changes its sign."""
     check_terms_agree(one, other)
@@ -89,7 +94,7 @@ def term_map(one, other):
 def is_map(one, other, value):
     """Whether the value is a map of one term to the other."""
     check_terms_asked(one, other)
-    if not isinstance(value, dict) or not all([is_name(old) and is_name(new) for old, new in value.items()]):
+    if not isinstance(value, dict) or not all([is_name(name) for name in value]):
         return False
     if sorted(value) != one.names() or [(value[name], sort) for name, sort in one.told()] != list(other.told()):
         return False

@@ -2,7 +2,6 @@
 
 from slotsums.agreement import check_sizes
 from slotsums.errors import InvalidPartition, TooMany
-from slotsums.kinds import is_name
 from slotsums.products import renamed_factors, renamed_told
 from slotsums.rooms import is_within
 from slotsums.terms import Term
@@ -58,7 +57,7 @@ def partitions_of(term):
 def is_block(value, term):
     """Whether the value is a sorted tuple of some names of one sort of the term."""
     names = term.names()
-    if not isinstance(value, tuple) or not value or not all([is_name(name) and name in names for name in value]):
+    if not isinstance(value, tuple) or not all([name in names for name in value]):
         return False
     return list(value) == sorted(set(value)) and len({term.sort_of(name) for name in value}) == 1
 

@@ -49,7 +49,7 @@ def rows_of_shapes(expressions, sizes):
         all_sums.append(sums)
         shapes = {**shapes, **own}
     keys = sorted(shapes)
-    rows = [[sums.get(key, Ratio(0)) for sums in all_sums] for key in keys]
+    rows = [[own_sums.get(key, Ratio(0)) for own_sums in all_sums] for key in keys]
     return rows, [shapes[key] for key in keys]
 
 
@@ -154,6 +154,15 @@ def weights_by_key(value):
     return found
 
 
+def weighted_sum(expression, sizes, weights):
+    """The sum of weight times b over the shapes of the expression that have a weight."""
+    sums, shapes = shape_sums(expression.terms(), sizes)
+    found = Ratio(0)
+    for key, number in sums.items():
+        found = found + number * weights.get(key, 0)
+    return found
+
+
 def is_weights(expressions, target, sizes, value):
     """Whether the value is a list of tuples (Term, weight) that shows that the target is no combination."""
     check_expressions(expressions, [target])
@@ -164,9 +173,5 @@ def is_weights(expressions, target, sizes, value):
     weights = weights_by_key(value)
     if weights is None or not all([is_within(term.sizes(), sizes) for term, weight in value]):
         return False
-    totals = []
-    for expression in together:
-        sums, shapes = shape_sums(expression.terms(), sizes)
-        parts = [sums[key] * weights[key] for key in sums if key in weights]
-        totals.append(Ratio.total(*parts))
-    return totals[-1].sign != 0 and all([total.sign == 0 for total in totals[:-1]])
+    totals = [weighted_sum(expression, sizes, weights) for expression in together]
+    return totals[-1].sign != 0 and all([number.sign == 0 for number in totals[:-1]])

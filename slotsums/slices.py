@@ -3,7 +3,7 @@
 from itertools import combinations
 
 from slotsums.errors import InvalidCount, InvalidNames
-from slotsums.kinds import is_count, is_list, is_name
+from slotsums.kinds import is_count, is_list
 from slotsums.planning import cheapest_of_sets, kept_sets, products_of
 from slotsums.plans import (check_has_factors, check_plan, check_plan_sizes, cost_with, many_places, sizes_of_names,
                             space_with)
@@ -17,10 +17,8 @@ def sliceable_names(term):
 
 def check_names(term, names):
     """Refuse what is no list of different names of the term that are not told."""
-    if not is_list(names) or not all([is_name(name) for name in names]):
-        raise InvalidNames(names)
     free = sliceable_names(term)
-    if not all([name in free for name in names]) or len(set(names)) < len(names):
+    if not is_list(names) or not all([name in free for name in names]) or len(set(names)) < len(names):
         raise InvalidNames(names)
 
 

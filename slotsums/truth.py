@@ -2,10 +2,11 @@
 
 from slotsums.agreement import check_sizes, sorts_of_all
 from slotsums.asking import asked_terms, check_keep_sign, check_questions
+from slotsums.cores import least_terms
 from slotsums.expressions import Expression
-from slotsums.maps import frozen_with, has_map_of_some
+from slotsums.maps import frozen_with, has_map_of_some, without_map_of_some
 from slotsums.partitions import check_partitions, quotients_with_room
-from slotsums.rooms import least_sizes
+from slotsums.rooms import is_within, least_sizes
 from slotsums.stores import Store
 from slotsums.values import check_store, value_of
 
@@ -26,49 +27,59 @@ def answers_of(expression, store):
     return list(value_of(counted, true_store(store)))
 
 
-def escaping_terms(one, other):
-    """The terms of the other expression to which no term of the first one has a map."""
-    asked = asked_terms(one)
-    return [term for term in asked_terms(other) if not has_map_of_some(asked, term)]
-
-
-def escaping_quotients(one, other, sizes):
-    """The quotients with room of the terms of the other expression to which no term of the first one has a map."""
-    asked = asked_terms(one)
-    # A term that has a map has one to each of its quotients.
-    return [quotient for term in escaping_terms(one, other) for quotient in quotients_with_room(term, sizes)
-            if not has_map_of_some(asked, quotient)]
+def finest_quotients(term, sizes):
+    """Quotients of a term with room at these sizes of which all others with room are quotients; None: at all sizes."""
+    if sizes is None:
+        return [term]
+    finest = {sort: min(many, sizes[sort]) for sort, many in term.sizes().items()}
+    return [quotient for quotient in quotients_with_room(term, sizes) if quotient.sizes() == finest]
 
 
 def escaping(one, other, sizes):
-    """Terms that show that one does not contain other at these sizes, or at all sizes; none if it does."""
+    """A quotient with room of a term of other to which no term of one has a map; None if there is none."""
     check_questions(one, other)
-    if sizes is None:
-        return escaping_terms(one, other)
-    check_sizes(sizes, sorts_of_all([one, other]))
-    check_partitions(asked_terms(other))
-    return escaping_quotients(one, other, sizes)
+    if sizes is not None:
+        check_sizes(sizes, sorts_of_all([one, other]))
+        check_partitions(asked_terms(other))
+    asked = least_terms(asked_terms(one))
+    # A term that has a map has one to each of its quotients, too.
+    for term in without_map_of_some(asked, asked_terms(other)):
+        for quotient in finest_quotients(term, sizes):
+            if not has_map_of_some(asked, quotient):
+                return quotient
+    return None
 
 
 def contains(one, other, sizes=None):
     """Whether the answers of one contain those of other in all stores of these sizes, or in all stores."""
-    return not escaping(one, other, sizes)
+    return escaping(one, other, sizes) is None
+
+
+def many_names(term):
+    """How many names a term has."""
+    return len(term.names())
 
 
 def least_escape_sizes(one, other):
     """The list of the least sizes at which one does not contain other."""
     check_questions(one, other)
     check_partitions(asked_terms(other))
-    quotients = escaping_quotients(one, other, None)
-    return least_sizes([quotient.sizes() for quotient in quotients], sorts_of_all([one, other]))
+    asked = least_terms(asked_terms(one))
+    found = []
+    for term in without_map_of_some(asked, asked_terms(other)):
+        for quotient in sorted(quotients_with_room(term, None), key=many_names):
+            own = quotient.sizes()
+            if not any([is_within(least, own) for least in found]) and not has_map_of_some(asked, quotient):
+                found.append(own)
+    return least_sizes(found, sorts_of_all([one, other]))
 
 
 def escape_of(one, other, sizes=None):
     """A tuple (Store, places) of places that are an answer of other and not of one; None if one contains other."""
-    found = escaping(one, other, sizes)
-    if not found:
+    quotient = escaping(one, other, sizes)
+    if quotient is None:
         return None
     if sizes is None:
-        own = found[0].sizes()
+        own = quotient.sizes()
         sizes = {sort: own.get(sort, 0) for sort in sorts_of_all([one, other])}
-    return frozen_with(found[0], sizes)
+    return frozen_with(quotient, sizes)

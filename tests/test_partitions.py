@@ -64,6 +64,14 @@ class PartitionsTest(Case):
             self.assertEqual(len(found[0]), len(term.sizes()))
             self.assertEqual(found[-1], tuple((name,) for name in term.names()))
 
+    def test_counts(self):
+        """So many partitions are counted as there are."""
+        for rows in range(8):
+            for cols in range(8 - rows):
+                told = [(name, "row") for name in "abcdefg"[:rows]] + [(name, "col") for name in "tuvwxyz"[:cols]]
+                term = Term(told, [])
+                self.assertEqual(partitions.partition_count(term), len(list(partitions_of(term))))
+
     def test_most_names(self):
         term = Term([(name, "row") for name in "abcdefg"], [])
         found = list(partitions_of(term))

@@ -251,6 +251,19 @@ class WeightsTest(Case):
         self.assertIs(is_weights([AROUND], LOOPS, None, [(shape, -1), (loops, 1)]), True)
         self.assertIs(is_weights([AROUND], LOOPS, None, [(shape, -1), (loops, 2)]), False)
 
+    def test_several_expressions(self):
+        """The sum must be 0 for each of them, and weights are integers, also where fractions would do."""
+        shape = Term([], [(LINKS, ("i", "j")), (LINKS, ("j", "i"))])
+        self.assertIs(is_weights([LOOPS, AROUND], AROUND, None, [(shape, 3)]), False)
+        self.assertIs(is_weights([LOOPS, LOOPS * 2], AROUND, None, [(shape, 3)]), True)
+        one = Term([], [(ROWS, ("i",))])
+        two, three = Term([], one.factors() + ((ROWS, ("j",)),)), Term([], [(COLS, ("k",))])
+        plain = [as_plain(term) for term in (one, two, three)]
+        mixed = plain[0] * 2 + plain[1] * 3 + plain[2] * 5
+        weights = weights_against([mixed, plain[1] * 7 - plain[2] * 11], plain[0])
+        self.assertIs(is_weights([mixed, plain[1] * 7 - plain[2] * 11], plain[0], None, weights), True)
+        self.assertEqual(sorted(abs(weight) for shape, weight in weights), [7, 11, 34])
+
     def test_signs(self):
         """b of a Term has the sign of the Term against its one shape."""
         told = [("i", "row"), ("j", "row"), ("k", "row")]
@@ -284,7 +297,7 @@ class WeightsTest(Case):
         mixed = [(SWAP, ("i", "j")), (Table.symmetric("S", "row", 2), ("i", "j"))]
         wrong = wrong_values() + [
             [(shape, 0)], [(shape, True)], [(shape, Ratio(3))], [[shape, 3]], [(shape, "3")], [(shape,)],
-            [(shape, 3, 3)], {shape.number.top: 3}, (shape, 3), shape, [(shape, 3), None], [(shape, 3), (shape, 3)],
+            [(shape, 3, 3)], {shape.number.top: 3}, (shape, 3), shape, [(shape, 3), None], [(shape, 3), (Term([], [(ROWS, ("i",))]), 0)], [(shape, 3), (shape, 3)],
             [(shape, 3), (Term([], [(LINKS, ("x", "y")), (LINKS, ("y", "x"))]), 1)], [(AROUND, 3)],
             [(shape, 3), (Term([], mixed), 1)], [(shape, 3), (Term([], [(SWAP, ("i", "i"))]), 1)],
             [(shape, 3), (Term([("i", "row")], []), 1)], [(shape, 3), (Term([("i", "row")], [(ROWS, ("i",))]), 1)],

@@ -117,6 +117,15 @@ class CheapestSlicedTest(Case):
                         self.assertTrue(cost == found[0] and space <= limit)
         self.assertTrue(none > 20 and sliced > 2, (none, sliced))
 
+    def test_more_names_can_cost_less(self):
+        """Sliced by b alone the term fits as well, at a cost of 120."""
+        three, two = Table("K", ["u", "f", "f"]), Table("H", ["f", "f"])
+        term = Term([], [(three, ("c", "z", "y")), (three, ("b", "x", "x")), (three, ("b", "y", "z")),
+                         (two, ("x", "x")), (two, ("x", "z"))])
+        found = cheapest_sliced(term, {"u": 10, "f": 2}, 2)
+        self.assertEqual(found, (96, ("x", "z"), ((0, (1, 2)), (3, 4))))
+        self.assertEqual(found, searched_slicing(term, {"u": 10, "f": 2}, 2))
+
     def test_seven_names(self):
         ring = Term([], [(LINKS, ("abcdefg"[k], "abcdefg"[(k + 1) % 7])) for k in range(7)])
         cost, names, plan = cheapest_sliced(ring, {"u": 10 ** 9}, 10 ** 9)
