@@ -55,7 +55,8 @@ class Table:
         group = group_of(len(slots), turns)
         if (tuple(range(len(slots))), -1) in group:
             raise Vanishing(name)
-        self._name = name
+        # No property: the errors have an attribute of this name, too, and an operator may raise one of them.
+        self.name = name
         self._slots = tuple(slots)
         self._group = tuple(group)
 
@@ -74,19 +75,6 @@ class Table:
         slots = [sort] * many
         turns = [(order, parity(order)) for order in permutations(range(many))]
         return Table(name, slots, *turns)
-
-    @property
-    def name(self):
-        """The name of the table."""
-        return self._name
-
-    @name.setter
-    def name(self, value):
-        """Refuse the value, whatever it is, as without a setter: a table does not change.
-
-        The setter stands here since errors have an attribute of this name, which they assign.
-        """
-        raise AttributeError("the name of a table does not change")
 
     @property
     def changes_sign(self):
@@ -124,7 +112,7 @@ class Table:
     def __eq__(self, other):
         if not isinstance(other, Table):
             return False
-        return self._name == other._name and self._slots == other._slots and self._group == other._group
+        return self.name == other.name and self._slots == other._slots and self._group == other._group
 
     def __repr__(self):
-        return f"Table({self._name!r}, {self._slots!r})"
+        return f"Table({self.name!r}, {self._slots!r})"

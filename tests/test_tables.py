@@ -109,18 +109,16 @@ class TableTest(Case):
                 self.assertIs(table.is_slot_places(value), False)
         self.assertIs(table.is_slot_places(value=(1, 2)), True)
 
-    def test_name_is_a_property(self):
-        """It is one of the class itself, the name in each way in which a table is made, and is not assigned."""
-        self.assertIsInstance(vars(Table)["name"], property)
+    def test_name(self):
+        """It is the name in each way in which a table is made, and each table has its own."""
         made = [Table("A", ["x", "x"]), Table.symmetric("A", "x", 2), Table.alternating("A", "x", 2),
-                Table("B", ["x", "x"]).renamed("A")]
-        for table in made:
-            self.assertEqual(table.name, "A")
-            with self.assertRaises(AttributeError):
-                table.name = "B"
-            self.assertEqual((table.name, table), ("A", table.renamed("A")))
-        self.assertEqual([table.renamed("C").name for table in made], ["C"] * 4)
-        self.assertEqual([table.name for table in made], ["A"] * 4)
+                Table("B", ["x", "x"]).renamed("A"), Table(name="A", slots=("x",))]
+        self.assertEqual([table.name for table in made], ["A"] * 5)
+        self.assertEqual([table.renamed("C").name for table in made], ["C"] * 5)
+        self.assertEqual([table.name for table in made], ["A"] * 5)
+        for name in ("a", "Z", "abcdefgh"):
+            self.assertEqual([Table(name, ["x"]).name, Table.symmetric(name, "x", 3).name,
+                              Table.alternating(name, "x", 4).name, made[0].renamed(name=name).name], [name] * 4)
 
     def test_renamed(self):
         table = Table.alternating("A", "x", 3)
