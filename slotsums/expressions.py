@@ -4,7 +4,7 @@ from slotsums.agreement import check_limits, check_same_sorts, check_tables
 from slotsums.errors import InvalidExpression, InvalidSorts, InvalidTerms, OtherSorts
 from slotsums.kinds import is_list, is_name
 from slotsums.ratios import as_ratio
-from slotsums.terms import Term
+from slotsums.terms import Term, told_sorts
 
 
 def check_sorts(sorts):
@@ -24,7 +24,7 @@ def check_terms(terms, sorts):
         if not isinstance(term, Term):
             raise InvalidTerms(position)
     for position, term in enumerate(terms):
-        if [sort for name, sort in term.told()] != list(sorts):
+        if told_sorts(term) != list(sorts):
             raise OtherSorts(position)
 
 

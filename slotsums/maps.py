@@ -6,6 +6,7 @@ from slotsums.kinds import is_name
 from slotsums.labels import check_terms_agree
 from slotsums.rows import different, without
 from slotsums.stores import Store
+from slotsums.terms import told_sorts
 from slotsums.turnings import turned
 
 
@@ -29,7 +30,7 @@ def extended(given, names, goal):
 
 def told_to_told(one, other):
     """The dict that brings the told row of one term to that of the other; None if there is none."""
-    if [sort for name, sort in one.told()] != [sort for name, sort in other.told()]:
+    if told_sorts(one) != told_sorts(other):
         return None
     return extended({}, [name for name, sort in one.told()], [name for name, sort in other.told()])
 

@@ -9,12 +9,8 @@ from slotsums.joins import fewest_new_names, joined
 from slotsums.labels import check_terms_agree
 from slotsums.partitions import check_partitions, merged, partitions_of
 from slotsums.shapes import keyed_shape
+from slotsums.terms import told_sorts
 from slotsums.values import all_whole_entries, at_told_places, check_store, tables_of_names, without_noughts
-
-
-def told_sorts(term):
-    """The sorts of the told row of a term."""
-    return [sort for name, sort in term.told()]
 
 
 def kept_apart(place_table, term):

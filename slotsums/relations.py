@@ -12,7 +12,7 @@ from slotsums.partitions import check_partitions
 from slotsums.ratios import Ratio
 from slotsums.rooms import is_within
 from slotsums.shapes import keyed_shape
-from slotsums.terms import Term
+from slotsums.terms import Term, told_sorts
 
 MOST_EXPRESSIONS = 8
 
@@ -135,7 +135,7 @@ def agree_with(terms, expressions):
     """Whether the terms have the told sorts of the expressions, and no two unlike tables have one name."""
     known = {table.name: table for expression in expressions for table in expression.tables()}
     for term in terms:
-        if tuple([sort for name, sort in term.told()]) != expressions[0].sorts():
+        if tuple(told_sorts(term)) != expressions[0].sorts():
             return False
         for table, names in term.factors():
             if known.setdefault(table.name, table) != table:

@@ -109,3 +109,8 @@ class Term:
         if not isinstance(other, Term):
             return False
         return self._told == other._told and self._factors == other._factors and self._number == other._number
+
+
+def told_sorts(term):
+    """The sorts of the told row of a term."""
+    return [sort for name, sort in term.told()]

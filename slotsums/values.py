@@ -17,15 +17,22 @@ def check_store(expression, store):
     check_tables(expression.tables() + store.tables())
 
 
-def tables_of_names(term, store, whole, fixed):
-    """A tuple (bottom, place tables): those of the lone names and of the factors, in integers over the bottom."""
-    place_tables = [lone_table(name, store.size(term.sort_of(name)), fixed) for name in term.lone_names()]
+def factor_tables(term, whole, fixed):
+    """A tuple (bottom, place tables): those of the factors, in integers over the bottom."""
     bottom = 1
+    place_tables = []
     for table, names in term.factors():
         scale, rows = whole[table.name]
         bottom = bottom * scale
         place_tables.append(factor_table(names, rows, fixed))
     return bottom, place_tables
+
+
+def tables_of_names(term, store, whole, fixed):
+    """A tuple (bottom, place tables): those of the lone names and of the factors, in integers over the bottom."""
+    bottom, place_tables = factor_tables(term, whole, fixed)
+    lone_tables = [lone_table(name, store.size(term.sort_of(name)), fixed) for name in term.lone_names()]
+    return bottom, lone_tables + place_tables
 
 
 def at_told_places(term, sums, bottom):

@@ -249,7 +249,12 @@ class LanguageTest(unittest.TestCase):
             "cores": ["core_of", "least_question", "are_equal_questions"],
             "plans": ["is_plan", "all_plans", "kept_names", "cost_of", "space_of"],
             "cheapest": ["cheapest_plan", "bound_table", "is_bound_table"],
-            "slices": ["sliced_cost", "cheapest_sliced"],
+            "slices": ["sliced_cost", "cheapest_sliced"], "runs": ["run_plan", "run_truth"],
+            "polynomials": ["Polynomial", "sign_runs"],
+            "every_size": ["cost_polynomial", "space_pieces", "best_plans", "is_best_plans", "changing_points",
+                           "last_exponent"],
+            "changes": ["difference_of", "all_differences", "changed_store"],
+            "slopes": ["slope_of", "is_slope", "slope_run"],
         }
         members = {
             "Ratio": "top bottom sign over is_below total __add__ __sub__ __mul__ __neg__ __eq__ __str__ __repr__",
@@ -257,6 +262,7 @@ class LanguageTest(unittest.TestCase):
             "Store": "sizes size tables entry entries with_entries",
             "Term": "number told factors names told_names lone_names sort_of sizes with_number",
             "Expression": "sorts terms tables all_sorts zero __add__ __sub__ __neg__ __mul__",
+            "Polynomial": "degree coefficients at __add__ __sub__ __mul__ __neg__ __eq__ __str__ __repr__",
         }
         self.assertLessEqual(set(listed), {path.stem for path, text, tree in files()})
         for path, text, tree in files():
