@@ -26,16 +26,11 @@ def letters_in(shape):
     return len(letters_as_places(shape)), len(shape.names())
 
 
-def differing_store(one, other, sizes):
-    """A tuple (Store, places, value of one less that of other, not 0); None if they are alike at these sizes."""
-    check_agree(one, other)
-    check_sizes(sizes, sorts_of_all([one, other]))
-    terms = terms_of_difference(one, other)
-    check_partitions(terms)
-    sums, shapes = shape_sums(terms, sizes)
-    if not shapes:
-        return None
-    shape = min(list(shapes.values()), key=letters_in)
+def store_for_shape(one, other, sizes, shape):
+    """A tuple (Store, places, value of one less that of other, not 0), for a shape of the difference with room.
+
+    Its b in the difference is not 0, and its letters are all that have entries.
+    """
     letters = letters_as_places(shape)
     places = told_as_places(shape)
     # While all other entries are 0, the difference at these places is a polynomial, not 0, of the entries of
@@ -48,3 +43,15 @@ def differing_store(one, other, sizes):
         value = value_at(one, store, places) - value_at(other, store, places)
         row += 1
     return store, places, value
+
+
+def differing_store(one, other, sizes):
+    """A tuple (Store, places, value of one less that of other, not 0); None if they are alike at these sizes."""
+    check_agree(one, other)
+    check_sizes(sizes, sorts_of_all([one, other]))
+    terms = terms_of_difference(one, other)
+    check_partitions(terms)
+    sums, shapes = shape_sums(terms, sizes)
+    if not shapes:
+        return None
+    return store_for_shape(one, other, sizes, min(list(shapes.values()), key=letters_in))

@@ -12,10 +12,15 @@ from slotsums.rows import different
 from slotsums.turnings import group_of, least_of, turned
 
 
+def unlike_names(one, other):
+    """The names of tables of one term of which the other term has an unlike table."""
+    tables = {table.name: table for table, names in one.factors()}
+    return [table.name for table, names in other.factors() if tables.get(table.name, table) != table]
+
+
 def check_terms_agree(one, other):
     """Refuse two terms with unlike tables of one name."""
-    tables = {table.name: table for table, names in one.factors()}
-    unlike = [table.name for table, names in other.factors() if tables.get(table.name, table) != table]
+    unlike = unlike_names(one, other)
     if unlike:
         raise OtherTable(min(unlike))
 

@@ -8,7 +8,7 @@ from slotsums.maps import frozen_with, has_map_of_some, without_map_of_some
 from slotsums.partitions import check_partitions, quotients_with_room
 from slotsums.rooms import is_within, least_sizes
 from slotsums.stores import Store
-from slotsums.values import check_store, value_of
+from slotsums.values import check_store, value_at, value_of
 
 
 def true_store(store):
@@ -17,14 +17,21 @@ def true_store(store):
     return Store(store.sizes(), *contents)
 
 
+def counted(expression):
+    """The expression whose values count the ways to an answer, where entries are 0 or 1: none of them cancel."""
+    return Expression(expression.sorts(), [term.with_number(1) for term in asked_terms(expression)])
+
+
 def answers_of(expression, store):
     """The sorted list of all answers of the expression in the store."""
     check_store(expression, store)
-    asked = asked_terms(expression)
-    check_keep_sign(asked)
-    # Without signs and numbers below 0 the values count the ways to an answer, so none of them cancel.
-    counted = Expression(expression.sorts(), [term.with_number(1) for term in asked])
-    return list(value_of(counted, true_store(store)))
+    check_keep_sign(asked_terms(expression))
+    return list(value_of(counted(expression), true_store(store)))
+
+
+def is_answer(expression, store, places):
+    """Whether told places of the store are an answer of an expression whose tables keep their sign."""
+    return value_at(counted(expression), true_store(store), places).sign != 0
 
 
 def finest_quotients(term, sizes):

@@ -12,7 +12,8 @@ LIBRARY = {"math": {"gcd", "lcm", "isqrt", "comb", "perm", "factorial"},
            "heapq": {"heappush", "heappop", "heapify", "heapreplace", "heappushpop"}}
 METHODS = set("""append clear copy count endswith extend find get index insert isalnum isalpha isdigit islower isspace
 isupper items join keys ljust lower lstrip partition pop remove replace reverse rfind rjust rpartition rsplit rstrip
-setdefault split splitlines startswith strip update upper values zfill bit_length isascii add discard""".split())
+setdefault split splitlines startswith strip update upper values zfill bit_length isascii removeprefix add
+discard""".split())
 MODIFYING = {"append", "clear", "extend", "insert", "pop", "remove", "reverse", "setdefault", "update"}
 BUILTINS = set("""len range enumerate zip min max sum abs sorted reversed int str bool list tuple dict set isinstance
 ord repr any all divmod ValueError LookupError RuntimeError property classmethod""".split())
@@ -29,7 +30,7 @@ ALLOWED = (ast.Module, ast.Expr, ast.Constant, ast.ImportFrom, ast.alias, ast.Cl
            ast.Lt, ast.LtE, ast.Gt, ast.GtE, ast.Is, ast.IsNot, ast.In, ast.NotIn, ast.IfExp, ast.Tuple, ast.List,
            ast.Dict, ast.ListComp, ast.DictComp, ast.SetComp, ast.comprehension, ast.Subscript, ast.Slice,
            ast.Starred, ast.JoinedStr, ast.FormattedValue, ast.Lambda, ast.Break, ast.Continue, ast.Pass,
-           ast.Yield, ast.LShift, ast.RShift, ast.BitAnd, ast.BitOr)
+           ast.Yield, ast.LShift, ast.RShift, ast.BitAnd, ast.BitOr, ast.Try, ast.ExceptHandler)
 
 YIELDING = {"partitions_of", "all_plans"}
 
@@ -77,9 +78,15 @@ class LanguageTest(unittest.TestCase):
                 self.assertIn(node.name, DOUBLE, where)
 
     def test_syntax(self):
-        """L6, L7: only these kinds of statements and expressions; no generator expression, no try, no set literal."""
+        """L6, L7, L19: only these kinds of statements and expressions; no generator expression, no set literal.
+
+        A `try` catches own errors only, without a name for them.
+        """
         for name, node in nodes(ast.AST):
             self.assertIsInstance(node, ALLOWED, f"{name} {getattr(node, 'lineno', '')}")
+        for name, node in nodes(ast.Try):
+            self.assertEqual((node.orelse, node.finalbody), ([], []), f"{name} {node.lineno}")
+            self.assertEqual([(ast.unparse(one.type), one.name) for one in node.handlers], [("SlotsumsError", None)])
         for name, node in nodes(ast.AugAssign):
             self.assertIsInstance(node.value, ast.Constant, f"{name} {node.lineno}")
         for name, node in nodes(ast.Constant):
@@ -255,6 +262,11 @@ class LanguageTest(unittest.TestCase):
                            "last_exponent"],
             "changes": ["difference_of", "all_differences", "changed_store"],
             "slopes": ["slope_of", "is_slope", "slope_run"],
+            "zeros": ["nonzero_places", "mattering_classes", "nonzero_product", "is_nonzero_product", "nonzero_store",
+                      "parting_stores"],
+            "texts": ["table_text", "expression_text", "program_text", "read_table", "read_expression", "read_program"],
+            "programs": ["Program", "put_in", "idle_definitions", "idle_tables", "first_difference"],
+            "symmetries": ["own_turns"], "judge": ["is_claim", "is_certificate", "certificate_of"], "desk": ["Desk"],
         }
         members = {
             "Ratio": "top bottom sign over is_below total __add__ __sub__ __mul__ __neg__ __eq__ __str__ __repr__",
@@ -262,6 +274,7 @@ class LanguageTest(unittest.TestCase):
             "Store": "sizes size tables entry entries with_entries",
             "Term": "number told factors names told_names lone_names sort_of sizes with_number",
             "Expression": "sorts terms tables all_sorts zero __add__ __sub__ __neg__ __mul__",
+            "Program": "names definition tables", "Desk": "do do_all undo log tried",
             "Polynomial": "degree coefficients at __add__ __sub__ __mul__ __neg__ __eq__ __str__ __repr__",
         }
         self.assertLessEqual(set(listed), {path.stem for path, text, tree in files()})
