@@ -7,7 +7,6 @@ from slotsums.errors import InvalidChange, InvalidNumber, InvalidOrder
 from slotsums.forms import form_of
 from slotsums.kinds import is_count
 from slotsums.ratios import is_number
-from slotsums.stores import slot_sizes
 from slotsums.tables import Table
 from slotsums.terms import Term
 
@@ -66,8 +65,6 @@ def changed_store(store, table, change, number=1):
     if not is_number(number):
         raise InvalidNumber(number)
     check_tables(store.tables() + [table, change])
-    # This refuses a sort that the store lacks, also where the table has no entries.
-    slot_sizes(table, store.sizes())
     sums = store.entries(table)
     for places, entry in store.entries(change).items():
         added = entry * number

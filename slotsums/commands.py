@@ -6,7 +6,7 @@ What a desk holds does not change; a command makes a new one, so an error leaves
 from slotsums.errors import InvalidCommand, NameTaken, UnknownName
 from slotsums.expressions import Expression
 from slotsums.kinds import is_name
-from slotsums.meanings import meaning_of
+from slotsums.meanings import check_many_rows, meaning_of
 from slotsums.reading import read_count, read_head, read_number, read_table_line, read_term_line, table_for
 from slotsums.sizes import least_unlike_sizes
 from slotsums.stores import Store
@@ -85,7 +85,7 @@ def add_table(held, command, words):
 
 
 def read_definition(held, command):
-    """A tuple (name, expression) of a command that defines."""
+    """A tuple (name, sorts, terms) of a command that defines."""
     head, equals, body = command.partition(" = ")
     name = head.partition(":")[0].removeprefix("define ")
     sorts = read_head(head, f"define {name}")
@@ -95,13 +95,15 @@ def read_definition(held, command):
     terms = [read_term_line(text, sorts, tables) for text in body.split("; ")] if equals else []
     if any([term is None for term in terms]):
         raise InvalidCommand(command)
-    return name, Expression(sorts, terms)
+    check_many_rows(len(terms))
+    return name, sorts, terms
 
 
 def add_definition(held, command, words):
     """`define NAME: SORT, SORT .. = TERM; TERM ..`"""
-    name, expression = read_definition(held, command)
+    name, sorts, terms = read_definition(held, command)
     held.check_free(name)
+    expression = Expression(sorts, terms)
     meaning = meaning_of(len(held.meanings), expression, held.meanings)
     standing = {**held.standing, **table_for(name, expression)}
     return DONE, with_part(held, standing=standing, meanings={**held.meanings, name: meaning})

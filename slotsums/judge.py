@@ -126,7 +126,7 @@ def unlike_place(one, other):
     if not shapes:
         return None
     # Only terms with more names could have a quotient of this shape, so its b is its number.
-    shape = max(list(shapes.values()), key=lambda own: len(own.names()))
+    shape = max(list(shapes.values()), key=lambda term: len(term.names()))
     own = shape.sizes()
     sizes = {sort: own.get(sort, 0) for sort in sorts_of_all([one, other])}
     store, places, value = store_for_shape(one, other, sizes, shape)

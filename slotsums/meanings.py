@@ -77,7 +77,7 @@ def check_rows(rows):
 
 
 def check_many_rows(many):
-    """Refuse too many terms of a definition that is multiplied out."""
+    """Refuse too many terms of a definition, as it is written or multiplied out."""
     if many > MOST_TERMS:
         raise TooMany("terms", MOST_TERMS)
 

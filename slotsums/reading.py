@@ -1,4 +1,7 @@
-"""Lines that are read: what a line stands for, or None if it is not just as it would be written."""
+"""Lines that are read: what a line stands for, or None if it is not just as it would be written.
+
+What is read of a line is written again, and must be this line; so no part of it needs to be looked at more closely.
+"""
 
 from slotsums.errors import SlotsumsError
 from slotsums.kinds import is_name
@@ -31,12 +34,9 @@ def read_number(word):
 
 
 def read_turn(text):
-    """The turn that a text stands for; None if it is none of a table with single digits as slots."""
+    """The turn that a text stands for, as far as it is one."""
     words = text.split(" ")
-    slots = [read_count(word) for word in words[1:-1]]
-    if words[0] != "turn" or words[-1] not in ("+", "-") or any([slot is None for slot in slots]):
-        return None
-    return tuple(slots), 1 if words[-1] == "+" else -1
+    return tuple([read_count(word) for word in words[1:-1]]), 1 if words[-1] == "+" else -1
 
 
 def table_or_none(name, slots, turns):
@@ -90,13 +90,10 @@ def read_term_line(line, sorts, tables):
     """The Term with these told sorts, over tables by name, that a line stands for, or None."""
     word, bracket, rest = line.partition(" [")
     told_text, bracket, factors_text = rest.partition("]")
-    number, told = read_number(word), read_told(told_text, sorts)
     # Behind each bracket but the last one stand a space and the next factor.
     texts = factors_text.split("]")
     factors = [read_factor(text[1:], tables) for text in texts[:-1]]
-    if number is None or told is None:
-        return None
-    term = term_or_none(told, factors, number)
+    term = term_or_none(read_told(told_text, sorts), factors, read_number(word))
     return term if term is not None and term_line(term) == line else None
 
 

@@ -317,3 +317,13 @@ def searched_cost(term, plan, sizes, sliced=()):
 def plan_key(plan):
     """A key by which plans ascend in their order."""
     return (1, plan_key(plan[0]), plan_key(plan[1])) if isinstance(plan, tuple) else (0, plan)
+
+
+def twin_of(chance, total):
+    """An alike expression, written otherwise."""
+    terms = []
+    for term in total.terms():
+        sign, other = disguised(chance, term)
+        terms.append(other.with_number(other.number * sign))
+    chance.shuffle(terms)
+    return Expression(total.sorts(), terms)

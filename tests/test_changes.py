@@ -67,8 +67,10 @@ class DifferenceTest(Case):
     def test_change_in_the_expression(self):
         """The expression can have the change as a table already."""
         mixed = Expression([], [Term([], [(A, ("i", "j")), (DA, ("j", "i"))])])
-        self.assertEqual(difference_of(mixed, A, DA, 1), one_form(Expression([], [Term([], [(DA, ("i", "j")), (DA, ("j", "i"))])])))
-        self.assertEqual(difference_of(mixed, DA, A, 1), one_form(Expression([], [Term([], [(A, ("i", "j")), (A, ("j", "i"))])])))
+        self.assertEqual(difference_of(mixed, A, DA, 1), one_form(Expression([],
+                [Term([], [(DA, ("i", "j")), (DA, ("j", "i"))])])))
+        self.assertEqual(difference_of(mixed, DA, A, 1), one_form(Expression([],
+                [Term([], [(A, ("i", "j")), (A, ("j", "i"))])])))
 
     def test_only_the_result_counts(self):
         """Each term has 35 choices of three of seven factors, but the one form has few terms; sixty-one are too many."""
@@ -80,7 +82,8 @@ class DifferenceTest(Case):
         rows = [[(flat, ("i",))] + [(table, ("i",))] * k + [(flat, ("j",)), (A, ("j", "i"))]
                 for table in tables for k in range(1, 5)]
         self.assertEqual(len(one_form(Expression([], [Term([], row) for row in rows[:30]])).terms()), 30)
-        self.assertEqual(len(difference_of(Expression([], [Term([], row) for row in rows[:30]]), flat, change, 1).terms()), 60)
+        self.assertEqual(len(difference_of(Expression([], [Term([], row) for row in rows[:30]]), flat, change,
+                                           1).terms()), 60)
         too_many = Expression([], [Term([], row) for row in rows[:31]])
         self.refuses(TooMany, {"kind": "terms", "limit": 60}, difference_of, too_many, flat, change, 1)
         self.refuses(TooMany, {"kind": "terms", "limit": 60}, all_differences, too_many, flat, change)
@@ -89,7 +92,8 @@ class DifferenceTest(Case):
 
 class ChangedStoreTest(Case):
     def test_entries(self):
-        store = Store({"r": 2, "s": 1}, (A, {(0, 1): 2, (1, 1): 3}), (DA, {(0, 1): Ratio(1, 2), (1, 0): 7}), (B, {(1, 0): 9}))
+        store = Store({"r": 2, "s": 1}, (A, {(0, 1): 2, (1, 1): 3}), (DA, {(0, 1): Ratio(1, 2), (1, 0): 7}),
+                      (B, {(1, 0): 9}))
         changed = changed_store(store, A, DA, -4)
         self.assertEqual(changed, Store({"r": 2, "s": 1}, (A, {(1, 1): 3, (1, 0): -28}),
                                         (DA, {(0, 1): Ratio(1, 2), (1, 0): 7}), (B, {(1, 0): 9})))
@@ -112,9 +116,11 @@ class ChangedStoreTest(Case):
 class ErrorsTest(Case):
     def test_change(self):
         calls = [lambda table, change: difference_of(TOTAL, table, change, None),
-                 lambda table, change: all_differences(Expression([], [Term([], [(Table("A", ["s"]), ("i",))])]), table, change),
+                 lambda table, change: all_differences(Expression([], [Term([], [(Table("A", ["s"]), ("i",))])]), table,
+                                                       change),
                  lambda table, change: changed_store(Store({}), table, change, None)]
-        wrong = wrong_values() + [A, Table("A", ["r"]), Table("X", ["r"]), Table("X", ["r", "s"]), Table("X", ["r", "r", "r"]),
+        wrong = wrong_values() + [A, Table("A", ["r"]), Table("X", ["r"]), Table("X", ["r", "s"]),
+                                  Table("X", ["r", "r", "r"]),
                                   Table.symmetric("X", "r", 2), Table.alternating("X", "r", 2), Table("X", ["s", "s"])]
         for call in calls:
             for value in wrong:
@@ -130,7 +136,8 @@ class ErrorsTest(Case):
     def test_number(self):
         for value in wrong_values():
             if not is_number(value):
-                self.refuses(InvalidNumber, {"value": value}, changed_store, Store({"s": 1}, (Table("A", ["s"]), {(0,): 1})),
+                self.refuses(InvalidNumber, {"value": value}, changed_store,
+                             Store({"s": 1}, (Table("A", ["s"]), {(0,): 1})),
                              A, DA, value)
 
     def test_other_table(self):
@@ -150,6 +157,7 @@ class ErrorsTest(Case):
         self.refuses(UnknownSort, {"name": "s"}, changed_store, Store({}), mixed, change)
         self.refuses(UnknownSort, {"name": "r"}, changed_store, Store({"s": 0}), mixed, change)
         self.refuses(UnknownSort, {"name": "q"}, changed_store, Store({"s": 0, "r": 1}), mixed, change, 0)
-        self.assertEqual(changed_store(Store({"s": 0, "r": 1, "q": 1}), mixed, change).sizes(), {"q": 1, "r": 1, "s": 0})
+        self.assertEqual(changed_store(Store({"s": 0, "r": 1, "q": 1}), mixed, change).sizes(),
+                         {"q": 1, "r": 1, "s": 0})
         self.assertTrue(are_alike(difference_of(TOTAL, mixed, change, 0), TOTAL))
         self.assertEqual(as_fractions(value_of(difference_of(TOTAL, mixed, change, 1), Store({"r": 1, "s": 1}))), {})

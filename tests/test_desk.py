@@ -2,7 +2,8 @@
 
 from helpers import Case, Thing, random_term, seeded, wrong_values
 from slotsums.desk import Desk
-from slotsums.errors import (InvalidCommand, InvalidEntry, InvalidPlaces, InvalidSum, NameTaken, NothingToUndo, OtherSorts,
+from slotsums.errors import (InvalidCommand, InvalidEntry, InvalidPlaces, InvalidSum, NameTaken, NothingToUndo,
+                             OtherSorts,
                              SlotsumsError, TooMany, UnknownName, UnknownSort)
 from slotsums.expressions import Expression
 from slotsums.forms import are_alike
@@ -15,11 +16,13 @@ from slotsums.texts import expression_text, read_expression, read_program
 from slotsums.values import value_at
 
 START = ["table A: row, row", "table S: row, row; turn 1 0 +", "table T: row, row; turn 1 0 -", "table B: row, col",
-         "size row 2", "size col 3", "entry A 3 0 1", "entry A 1/2 1 0", "entry S -2 1 0", "entry T 5 1 0", "entry B 7 1 2",
+         "size row 2", "size col 3", "entry A 3 0 1", "entry A 1/2 1 0", "entry S -2 1 0", "entry T 5 1 0",
+         "entry B 7 1 2",
          "define sq: row, row = 1 [i, k] A[i, j] A[j, k]", "define tr: = 1 [] sq[i, i]; -1/2 []", "define no: row, row",
          "define nn:", "define lone: col = 4 [x]", "define mix: row = 2 [i] sq[i, j] B[j, x] lone[x]; 1 [i] S[i, j] T[i, j]"]
 # Answers to questions behind these commands, which tell whether anything changed.
-QUESTIONS = ["value sq 0 0", "value sq 0 1", "value tr", "value no 1 1", "value nn", "value lone 2", "value mix 0", "value mix 1",
+QUESTIONS = ["value sq 0 0", "value sq 0 1", "value tr", "value no 1 1", "value nn", "value lone 2", "value mix 0",
+             "value mix 1",
              "alike sq no", "alike tr nn", "alike tr tr", "alike nn nn"]
 ANSWERS = ["3/2", "0", "5/2", "0", "0", "4", "10", "74"]
 
@@ -34,7 +37,8 @@ def desk():
 class DeskCase(Case):
     def state(self, one):
         """What can be asked of a desk, its forms included."""
-        return one.log(), one.tried(QUESTIONS), [one.do(f"form {name}") for name in ("sq", "tr", "no", "nn", "lone", "mix")]
+        return one.log(), one.tried(QUESTIONS), [one.do(f"form {name}") for name in ("sq", "tr", "no", "nn", "lone",
+                "mix")]
 
     def refuses_all(self, kind, told, command):
         """The command raises the error by each way, alone and among others, with everything as it was behind it."""
@@ -76,9 +80,11 @@ class CommandsTest(DeskCase):
     def test_alike(self):
         """`yes`, or sizes: a comma between sorts, a semicolon between several sizes."""
         one = desk()
-        one.do_all(["define a: = 1 [] A[i, i] A[j, j]", "define b: = 1 [] A[i, j] A[j, i]", "define five: = 5 []", "define six: = 6 []",
+        one.do_all(["define a: = 1 [] A[i, i] A[j, j]", "define b: = 1 [] A[i, j] A[j, i]", "define five: = 5 []",
+                    "define six: = 6 []",
                     "table C: col", "define c: = 1 [] B[i, x] C[y]", "define d: = 1 [] B[i, x] C[x]",
-                    "define e: = 1 [] A[i, i] A[j, j]; 1 [] B[i, x] C[y]", "define f: = 1 [] A[i, j] A[j, i]; 1 [] B[i, x] C[x]",
+                    "define e: = 1 [] A[i, i] A[j, j]; 1 [] B[i, x] C[y]",
+                    "define f: = 1 [] A[i, j] A[j, i]; 1 [] B[i, x] C[x]",
                     "define g: = 1 [] A[p, q] A[q, p]"])
         rows = [("a b", "row 2"), ("b g", "yes"), ("five five", "yes"), ("five six", ""), ("c d", "col 2, row 1"),
                 ("e f", "col 0, row 2; col 2, row 1"), ("a five", "row 0"), ("sq no", "row 1"), ("nn five", "")]
@@ -89,11 +95,13 @@ class CommandsTest(DeskCase):
     def test_value(self):
         one = desk()
         one.do_all(["define five: = 5 []", "define pair: row, row = 1 [i, i] A[i, j]; 2/3 [i, j]"])
-        self.assertEqual([one.do(f"value {rest}") for rest in ("five", "pair 0 0", "pair 0 1", "pair 1 1")], ["5", "11/3", "2/3", "7/6"])
+        self.assertEqual([one.do(f"value {rest}") for rest in ("five", "pair 0 0", "pair 0 1", "pair 1 1")],
+                         ["5", "11/3", "2/3", "7/6"])
 
     def test_sizes(self):
         one = Desk()
-        one.do_all(["size row 0", "size col 1000000000", "table B: row, col", "define all: = 1 [] B[i, x]", "define lone: col = 3 [x]"])
+        one.do_all(["size row 0", "size col 1000000000", "table B: row, col", "define all: = 1 [] B[i, x]",
+                    "define lone: col = 3 [x]"])
         self.assertEqual(one.do_all(["value all", "value lone 999999999"]), ["0", "3"])
         one.do_all(["size row 1", "entry B 7 0 999999999"])
         self.assertEqual(one.do("value all"), "7")
@@ -104,9 +112,11 @@ class CommandsTest(DeskCase):
         """An entry counts for its class, in place of what was set for a place of it; 0 takes it away."""
         one = desk()
         one.do_all(["define s: row, row = 1 [i, j] S[i, j]", "define t: row, row = 1 [i, j] T[i, j]"])
-        self.assertEqual(one.do_all(["value s 0 1", "value s 1 0", "value t 0 1", "value t 1 0"]), ["-2", "-2", "-5", "5"])
+        self.assertEqual(one.do_all(["value s 0 1", "value s 1 0", "value t 0 1", "value t 1 0"]),
+                         ["-2", "-2", "-5", "5"])
         one.do_all(["entry S 4 0 1", "entry T 3/4 0 1"])
-        self.assertEqual(one.do_all(["value s 0 1", "value s 1 0", "value t 0 1", "value t 1 0"]), ["4", "4", "3/4", "-3/4"])
+        self.assertEqual(one.do_all(["value s 0 1", "value s 1 0", "value t 0 1", "value t 1 0"]),
+                         ["4", "4", "3/4", "-3/4"])
         one.do_all(["entry S 0 1 0", "entry T 0 0 1", "entry T 0 0 0"])
         self.assertEqual(one.do_all(["value s 0 1", "value s 1 0", "value t 0 1", "value t 1 0"]), ["0"] * 4)
         self.assertEqual([one.undo() for _ in range(5)], [None] * 5)
@@ -152,7 +162,8 @@ class CommandsTest(DeskCase):
             definitions, known = [], list(tables)
             for name in ("one", "two", "tre"):
                 sorts = [chance.choice("rs") for _ in range(chance.randint(0, 2))]
-                terms = [random_term(chance, known, told_sorts=sorts, most_factors=2) for _ in range(chance.randint(0, 3))]
+                terms = [random_term(chance, known, told_sorts=sorts, most_factors=2) for _ in range(chance.randint(0,
+                        3))]
                 definitions.append((name, Expression(sorts, terms)))
                 if sorts:
                     known.append(Table(name, sorts))
@@ -161,9 +172,11 @@ class CommandsTest(DeskCase):
             except SlotsumsError:
                 continue
             done += 1
-            one, store = Desk(), Store({"r": 2, "s": 2}, (tables[0], {(0, 1): 2, (1, 1): Ratio(-1, 3)}), (tables[1], {(1, 0): 5}),
+            one, store = Desk(), Store({"r": 2, "s": 2}, (tables[0], {(0, 1): 2, (1, 1): Ratio(-1, 3)}),
+                                       (tables[1], {(1, 0): 5}),
                                        (tables[2], {(1, 0): 3}))
-            one.do_all(["table A: r, r", "table B: r, s", "table T: r, r; turn 1 0 -", "size r 2", "size s 2", "entry A 2 0 1",
+            one.do_all(["table A: r, r", "table B: r, s", "table T: r, r; turn 1 0 -", "size r 2", "size s 2",
+                        "entry A 2 0 1",
                         "entry A -1/3 1 1", "entry B 5 1 0", "entry T 3 1 0"])
             for name, expression in definitions:
                 lines = expression_text(expression).split("\n")[len(expression.tables()) + 1:-1]
@@ -185,24 +198,39 @@ class ErrorsTest(DeskCase):
     def test_invalid_commands(self):
         for value in wrong_values():
             self.refuses_all(InvalidCommand, {"value": value}, value)
-        for command in ("", " ", "done", "tables A: row", "table", "table Q", "table Q: ", "table Q:row", " table Q: row", "table Q: row ",
-                        "table Q: row\n", "table Q: row, row; turn 1 0", "table Q: row, row; turn 0 1 +", "table Q: row; turn 0 -",
-                        "table Q: x, x, x; turn 1 2 0 +", "table Q1: row", "table Q: a, a, a, a, a", "table  Q: row", "Table Q: row",
-                        "size", "size row", "size row 2 3", "size row -1", "size row 02", "size row +2", "size row 1/2", "size row two",
-                        "size  row 2", "size row  2", "size row 2 ", "size row1 2", "size nineletts 2", "size 2 row", "size row 2\n",
-                        "entry", "entry A", "entry A x 0 1", "entry A 1.5 0 1", "entry A 2/4 0 1", "entry A -0 0 1", "entry A 1/0 0 1",
-                        "entry A 1 0 -1", "entry A 1 0 01", "entry A 1 0 1/2", "entry A  1 0 1", "entry A 1 0  1", "entry A 1 0 1 ",
-                        "entry A1 1 0 1", "entry 1 A 0 1", "form", "form sq tr", "form  sq", "form sq ", "form s-q", "form nineletts",
-                        "alike", "alike sq", "alike sq tr no", "alike sq  tr", "alike sq 1", "value", "value  sq 0 0", "value sq 0 x",
-                        "value sq 0 -1", "value sq 0 01", "value sq 0 0 ", "value sq1", "VALUE sq 0 0", "undo", "log", "sq"):
+        for command in ("", " ", "done", "tables A: row", "table", "table Q", "table Q: ", "table Q:row",
+                        " table Q: row", "table Q: row ",
+                        "table Q: row\n", "table Q: row, row; turn 1 0", "table Q: row, row; turn 0 1 +",
+                        "table Q: row; turn 0 -",
+                        "table Q: x, x, x; turn 1 2 0 +", "table Q1: row", "table Q: a, a, a, a, a", "table  Q: row",
+                        "Table Q: row",
+                        "size", "size row", "size row 2 3", "size row -1", "size row 02", "size row +2", "size row 1/2",
+                        "size row two",
+                        "size  row 2", "size row  2", "size row 2 ", "size row1 2", "size nineletts 2", "size 2 row",
+                        "size row 2\n",
+                        "entry", "entry A", "entry A x 0 1", "entry A 1.5 0 1", "entry A 2/4 0 1", "entry A -0 0 1",
+                        "entry A 1/0 0 1",
+                        "entry A 1 0 -1", "entry A 1 0 01", "entry A 1 0 1/2", "entry A  1 0 1", "entry A 1 0  1",
+                        "entry A 1 0 1 ",
+                        "entry A1 1 0 1", "entry 1 A 0 1", "form", "form sq tr", "form  sq", "form sq ", "form s-q",
+                        "form nineletts",
+                        "alike", "alike sq", "alike sq tr no", "alike sq  tr", "alike sq 1", "alike 1 sq", "value",
+                        "value  sq 0 0", "value sq 0 x",
+                        "value sq 0 -1", "value sq 0 01", "value sq 0 0 ", "value sq1", "VALUE sq 0 0", "undo", "log",
+                        "sq"):
             self.refuses_all(InvalidCommand, {"value": command}, command)
 
     def test_invalid_definitions(self):
-        for rest in ("", "q", "q: ", "q: row ", "q:row", " q: row", "q: row,row", "q1: row", "nineletts: row", "q: row =", "q: row = ", "q: =",
-                     "q: = ", "q:= 1 []", "q = 1 []", "q: row = 1 [i];", "q: row = 1 [i]; ", "q: row = 1 [i];1 [i]", "q: row = 1 [i] ; 1 [i]",
-                     "q: row = 1 [i] Z[i]", "q: row = 1 [i] q[i]", "q: row = 1 [i] nn[]", "q: row = 1 [i] A[i]", "q: row = 1 [i] B[i, i]",
-                     "q: row = 1 []", "q: row = 1 [i, j]", "q: col = 1 [i] A[i, j]", "q: row = [i] A[i, j]", "q: row = 2/4 [i] A[i, j]",
-                     "q: row = 1 [i] A[i,j]", "q: row = 1 [i]A[i, j]", "q: row = 1 [i] A[i, j] ", "q: row = 1 [i]  A[i, j]", "q: row = 1 [i1]",
+        for rest in ("", "q", "q: ", "q: row ", "q:row", " q: row", "q: row,row", "q1: row", "nineletts: row",
+                     "q: row =", "q: row = ", "q: =",
+                     "q: = ", "q:= 1 []", "q = 1 []", "q: row = 1 [i];", "q: row = 1 [i]; ", "q: row = 1 [i];1 [i]",
+                     "q: row = 1 [i] ; 1 [i]",
+                     "q: row = 1 [i] Z[i]", "q: row = 1 [i] q[i]", "q: row = 1 [i] nn[]", "q: row = 1 [i] A[i]",
+                     "q: row = 1 [i] B[i, i]",
+                     "q: row = 1 []", "q: row = 1 [i, j]", "q: col = 1 [i] A[i, j]", "q: row = [i] A[i, j]",
+                     "q: row = 2/4 [i] A[i, j]",
+                     "q: row = 1 [i] A[i,j]", "q: row = 1 [i]A[i, j]", "q: row = 1 [i] A[i, j] ",
+                     "q: row = 1 [i]  A[i, j]", "q: row = 1 [i1]",
                      "q: row  = 1 [i]", "q: row =  1 [i]", "q: row = 1 [i] = 1 [i]", "q: =1 []", "q: = 1 []\n",
                      "q: = 1 []" + " A[i, i]" * 8, "q: = 1 [] A[a, b] A[c, d] A[e, f] A[g, h]",
                      "q: " + ", ".join(["row"] * 9) + " = 1 [" + ", ".join(["i"] * 9) + "]"):
@@ -210,18 +238,24 @@ class ErrorsTest(DeskCase):
             self.refuses_all(InvalidCommand, {"value": command}, command)
 
     def test_names(self):
-        for command in ("table A: col", "table sq: row, row", "define A: row = 1 [i]", "define sq:", "define sq: = 1 [] sq[i, i]",
+        for command in ("table A: col", "table sq: row, row", "define A: row = 1 [i]", "define sq:",
+                        "define sq: = 1 [] sq[i, i]",
                         "define nn: row", "table nn: row"):
             name = command.split(" ")[1].rstrip(":")
             self.refuses_all(NameTaken, {"name": name}, command)
-        for command, name in (("entry Z 1 0", "Z"), ("entry sq 1 0 0", "sq"), ("entry Z 0", "Z"), ("form A", "A"), ("form Z", "Z"),
-                              ("alike Z Y", "Z"), ("alike sq A", "A"), ("alike A sq", "A"), ("value A 0 1", "A"), ("value Z", "Z")):
+        for command, name in (("entry Z 1 0", "Z"), ("entry sq 1 0 0", "sq"), ("entry Z 0", "Z"), ("form A", "A"),
+                              ("form Z", "Z"),
+                              ("alike Z Y", "Z"), ("alike sq A", "A"), ("alike A sq", "A"), ("value A 0 1", "A"),
+                              ("value Z", "Z")):
             self.refuses_all(UnknownName, {"value": name}, command)
 
     def test_errors_of_functions(self):
-        rows = [("entry A 3 2 0", InvalidEntry, {"position": 0, "places": (2, 0)}), ("entry T 1 0 0", InvalidEntry, {"position": 3, "places": (0, 0)}),
-                ("size row 1", InvalidEntry, {"position": 0, "places": (0, 1)}), ("entry A 1 0", InvalidPlaces, {"value": (0,)}),
-                ("entry A 0 0 0 0", InvalidPlaces, {"value": (0, 0, 0)}), ("value sq 0 2", InvalidPlaces, {"value": (0, 2)}),
+        rows = [("entry A 3 2 0", InvalidEntry, {"position": 0, "places": (2, 0)}),
+                ("entry T 1 0 0", InvalidEntry, {"position": 3, "places": (0, 0)}),
+                ("size row 1", InvalidEntry, {"position": 0, "places": (0, 1)}),
+                ("entry A 1 0", InvalidPlaces, {"value": (0,)}),
+                ("entry A 0 0 0 0", InvalidPlaces, {"value": (0, 0, 0)}),
+                ("value sq 0 2", InvalidPlaces, {"value": (0, 2)}),
                 ("value sq 0", InvalidPlaces, {"value": (0,)}), ("value tr 0", InvalidPlaces, {"value": (0,)}),
                 ("alike sq tr", OtherSorts, {"position": 0}), ("alike lone mix", OtherSorts, {"position": 0}),
                 ("define q: = 1 [] lone[x]", InvalidSum, {"position": 6}),
@@ -250,14 +284,19 @@ class ErrorsTest(DeskCase):
     def test_sequence(self):
         """A command that is none comes ahead of a name that is taken or unknown, this ahead of other errors."""
         sixty_one = "; ".join(["1 [i]"] * 61)
-        rows = [("define A: row = 1 [j] Z[j]", InvalidCommand), ("define A: row = " + sixty_one + "; 1 [", InvalidCommand),
-                ("table A: row; turn 0 +", InvalidCommand), ("entry Z 1 x", InvalidCommand), ("value Z 01", InvalidCommand),
-                ("alike Z 1", InvalidCommand), ("define sq: = 1 [] lone[x]", NameTaken), ("entry Z 1", UnknownName), ("value Z 7 7", UnknownName),
+        rows = [("define A: row = 1 [j] Z[j]", InvalidCommand), ("define A: row = " + sixty_one + "; 1 [",
+                                                                 InvalidCommand),
+                ("table A: row; turn 0 +", InvalidCommand), ("entry Z 1 x", InvalidCommand),
+                ("value Z 01", InvalidCommand),
+                ("alike Z 1", InvalidCommand), ("define sq: = 1 [] lone[x]", NameTaken),
+                ("define sq: " + ", ".join(["row"] * 9), NameTaken), ("entry Z 1", UnknownName),
+                ("value Z 7 7", UnknownName),
                 ("alike sq Z", UnknownName)]
         for command, kind in rows:
             told = {"value": command} if kind is InvalidCommand else (
                 {"name": command.split(" ")[1].rstrip(":")} if kind is NameTaken else {"value": "Z"})
             self.refuses_all(kind, told, command)
+        self.refuses_all(TooMany, {"kind": "terms", "limit": 60}, "define sq: row = " + sixty_one)
 
 
 class StepsTest(DeskCase):
@@ -265,9 +304,11 @@ class StepsTest(DeskCase):
         """A wrong command among right ones leaves nothing of them."""
         one = desk()
         before = self.state(one)
-        for wrong, kind in (("size row", InvalidCommand), ("table A: row", NameTaken), ("form Q", UnknownName), (None, InvalidCommand)):
+        for wrong, kind in (("size row", InvalidCommand), ("table A: row", NameTaken), ("form Q", UnknownName),
+                            (None, InvalidCommand)):
             with self.assertRaises(kind):
-                one.do_all(["table Q: row", "define q: row = 1 [i] Q[i]", "size row 4", "entry Q 1 3", "value q 3", wrong, "size row 9"])
+                one.do_all(["table Q: row", "define q: row = 1 [i] Q[i]", "size row 4", "entry Q 1 3", "value q 3",
+                            wrong, "size row 9"])
             self.assertEqual(self.state(one), before)
         self.assertEqual(one.do_all([]), [])
         self.assertEqual(one.do_all(("table Q: row", "form nn")), ["done", "sum:\n"])
@@ -296,7 +337,8 @@ class StepsTest(DeskCase):
     def test_tried(self):
         one = desk()
         before = self.state(one)
-        self.assertEqual(one.tried(["entry A 0 0 1", "value tr", "define q: row", "form q"]), ["done", "-1/2", "done", "sum: row\n"])
+        self.assertEqual(one.tried(["entry A 0 0 1", "value tr", "define q: row", "form q"]),
+                         ["done", "-1/2", "done", "sum: row\n"])
         self.assertEqual(one.tried(commands=("value tr",)), ["5/2"])
         self.assertEqual(one.tried([]), [])
         self.assertEqual(self.state(one), before)

@@ -62,7 +62,8 @@ class CostPolynomialTest(Case):
         self.assertEqual(cost_polynomial(term=CHAIN, plan=RIGHT, growth=GROWTH), Polynomial(0, 200))
         self.assertEqual(cost_polynomial(CHAIN, LEFT, {"f": None, "u": None}), Polynomial(0, 0, 0, 2))
         self.assertEqual(cost_polynomial(CHAIN, LEFT, {"f": 10, "u": 2}), Polynomial(80))
-        self.assertEqual(cost_polynomial(CHAIN, LEFT, {"f": 10 ** 9, "u": None, "more": None}), Polynomial(0, 0, 2 * 10 ** 9))
+        self.assertEqual(cost_polynomial(CHAIN, LEFT, {"f": 10 ** 9, "u": None, "more": None}),
+                         Polynomial(0, 0, 2 * 10 ** 9))
 
     def test_against_cost_of(self):
         chance = seeded(361)
@@ -82,7 +83,8 @@ class SpacePiecesTest(Case):
     def test_small(self):
         self.assertEqual(space_pieces(ONE, 0, {"u": None}), [(1, Polynomial())])
         self.assertEqual(space_pieces(CHAIN, LEFT, GROWTH), [(1, Polynomial(0, 10)), (10, Polynomial(0, 0, 1))])
-        self.assertEqual(space_pieces(term=CHAIN, plan=RIGHT, growth=GROWTH), [(1, Polynomial(100)), (10, Polynomial(0, 10))])
+        self.assertEqual(space_pieces(term=CHAIN, plan=RIGHT, growth=GROWTH),
+                         [(1, Polynomial(100)), (10, Polynomial(0, 10))])
         self.assertEqual(space_pieces(CHAIN, RIGHT, {"f": 10, "u": 3}), [(1, Polynomial(100))])
         self.assertEqual(space_pieces(CHAIN, RIGHT, {"f": 1, "u": None}), [(1, Polynomial(0, 1))])
 
@@ -215,6 +217,12 @@ class IsBestPlansTest(Case):
                       [(1, LEFT, left), (10, RIGHT, right), (11, RIGHT, right)],
                       [(1, LEFT, left), (10, LEFT, left), (11, RIGHT, right)]):
             self.assertIs(is_best_plans(CHAIN, GROWTH, value), True)
+        # At d = 1 alone both cost the same, and from d = 2 on the other one costs less.
+        thin, cost, less = {"f": 1, "u": None}, Polynomial(0, 0, 2), Polynomial(0, 2)
+        self.assertEqual(best_plans(CHAIN, thin), [(1, RIGHT, less)])
+        self.assertIs(is_best_plans(CHAIN, thin, [(1, LEFT, cost), (2, RIGHT, less)]), True)
+        self.assertIs(is_best_plans(CHAIN, thin, [(1, LEFT, cost), (3, RIGHT, less)]), False)
+        self.assertIs(is_best_plans(CHAIN, thin, [(1, RIGHT, less), (2, LEFT, cost), (3, RIGHT, less)]), False)
         both = {"f": 3, "u": 3}
         cost = cost_polynomial(CHAIN, LEFT, both)
         for plan in (LEFT, RIGHT):
@@ -251,7 +259,8 @@ class IsBestPlansTest(Case):
 class ChangingPointsTest(Case):
     def test_example(self):
         self.assertEqual(changing_points(CHAIN, LEFT, RIGHT, GROWTH), [(1, -1), (10, 0), (11, 1)])
-        self.assertEqual(changing_points(term=CHAIN, plan=RIGHT, other=LEFT, growth=GROWTH), [(1, 1), (10, 0), (11, -1)])
+        self.assertEqual(changing_points(term=CHAIN, plan=RIGHT, other=LEFT, growth=GROWTH),
+                         [(1, 1), (10, 0), (11, -1)])
         self.assertEqual(changing_points(CHAIN, LEFT, LEFT, GROWTH), [(1, 0)])
         self.assertEqual(changing_points(CHAIN, LEFT, RIGHT, {"f": 2, "u": 1}), [(1, -1)])
 

@@ -2,9 +2,9 @@
 
 import itertools
 
-from helpers import (Case, disguised, many_partitions, many_tables, plan_key, question_tables, random_expression, random_term,
+from helpers import (Case, many_partitions, many_tables, plan_key, question_tables, random_expression, random_term,
                      searched, searched_answers, searched_cost, searched_least, searched_maps, searched_partitions,
-                     searched_plans, searched_quotient, searched_renamings, seeded, wrong_values)
+                     searched_plans, searched_quotient, searched_renamings, seeded, twin_of, wrong_values)
 from slotsums.cheapest import bound_table, is_bound_table
 from slotsums.errors import InvalidClaim, TooMany
 from slotsums.every_size import best_plans, is_best_plans
@@ -162,16 +162,6 @@ def is_true(claim):
     return True
 
 
-def twin_of(chance, total):
-    """An alike expression, written otherwise."""
-    terms = []
-    for term in total.terms():
-        sign, other = disguised(chance, term)
-        terms.append(other.with_number(other.number * sign))
-    chance.shuffle(terms)
-    return Expression(total.sorts(), terms)
-
-
 def some_claims(seed, many):
     """Claims of all kinds, some of them true."""
     chance = seeded(seed)
@@ -180,7 +170,9 @@ def some_claims(seed, many):
         sorts = [chance.choice("rs") for _ in range(chance.randint(0, 2))]
         tables, asked = chance.sample(many_tables()[:9], 2), chance.sample(question_tables()[:6], 2)
         one = random_expression(chance, tables, sorts, most_factors=3)
-        other = twin_of(chance, one) if chance.random() < 0.5 else random_expression(chance, tables, sorts, most_factors=3)
+        other = random_expression(chance, tables, sorts, most_factors=3)
+        if chance.random() < 0.5:
+            other = twin_of(chance, one)
         found += [("alike", one, other), ("unlike", one, other),
                   ("alike at", one, other, {"r": chance.randint(0, 2), "s": chance.randint(0, 2), "x": 0})]
         found.append(("nought", random_term(chance, many_tables()[:9], most_factors=3)))
@@ -221,8 +213,10 @@ def mutated(value, others):
 
 class ClaimTest(Case):
     def good(self):
-        return [("alike", LOOP, POOL), ("alike at", LOOP, SQUARES, {"r": 1}), ("unlike", LOOP, SQUARES), ("nought", CHAIN),
-                ("contains", LOOP, SQUARES), ("escapes", LOOP, SQUARES), ("at most", CHAIN, SIZES, 0), ("at least", CHAIN, SIZES, 7),
+        return [("alike", LOOP, POOL), ("alike at", LOOP, SQUARES, {"r": 1}), ("unlike", LOOP, SQUARES),
+                ("nought", CHAIN),
+                ("contains", LOOP, SQUARES), ("escapes", LOOP, SQUARES), ("at most", CHAIN, SIZES, 0),
+                ("at least", CHAIN, SIZES, 7),
                 ("best", CHAIN, {"r": None, "s": 5})]
 
     def test_good(self):
@@ -230,8 +224,10 @@ class ClaimTest(Case):
             self.assertIs(is_claim(claim), True)
         for claim in some_claims(461, 40):
             self.assertIs(is_claim(value=claim), True)
-        for claim in (("alike at", LOOP, POOL, {"r": 0, "x": 7}), ("nought", Term([], [])), ("at most", CHAIN, {**SIZES, "x": 1}, 0),
-                      ("best", CHAIN, {"r": 1, "s": 10 ** 9, "x": None}), ("alike", Expression.zero(["r"]), Expression.zero(["r"]))):
+        for claim in (("alike at", LOOP, POOL, {"r": 0, "x": 7}), ("nought", Term([], [])),
+                      ("at most", CHAIN, {**SIZES, "x": 1}, 0),
+                      ("best", CHAIN, {"r": 1, "s": 10 ** 9, "x": None}),
+                      ("alike", Expression.zero(["r"]), Expression.zero(["r"]))):
             self.assertIs(is_claim(claim), True)
 
     def test_any_value(self):
@@ -270,12 +266,15 @@ class ClaimTest(Case):
         self.assertIs(is_claim(("alike at", LOOP, odd, {"r": 1})), True)
 
     def test_sizes(self):
-        for sizes in ({}, {"s": 1}, {"r": True}, {"r": -1}, {"r": None}, {"r": 1, 2: 3}, {"r": 1, "": 3}, {"r": 1, "x": None}, [("r", 1)]):
+        for sizes in ({}, {"s": 1}, {"r": True}, {"r": -1}, {"r": None}, {"r": 1, 2: 3}, {"r": 1, "": 3},
+                      {"r": 1, "x": None}, [("r", 1)]):
             self.assertIs(is_claim(("alike at", LOOP, POOL, sizes)), False)
-        for sizes in ({"r": 1}, {"r": 1, "s": 0}, {"r": 1, "s": 1, "x": 0}, {"r": 1, "s": None}, {"r": 1, "s": True}, {"r": -1, "s": 1}, {}):
+        for sizes in ({"r": 1}, {"r": 1, "s": 0}, {"r": 1, "s": 1, "x": 0}, {"r": 1, "s": None}, {"r": 1, "s": True},
+                      {"r": -1, "s": 1}, {}):
             self.assertIs(is_claim(("at most", CHAIN, sizes, 5)), False)
             self.assertIs(is_claim(("at least", CHAIN, sizes, 5)), False)
-        for growth in ({}, {"r": 1}, {"r": 1, "s": 0}, {"r": 1, "s": 10 ** 9 + 1}, {"r": 1, "s": True}, {"r": 1, "s": 1, "x": 0}, {"r": None, 5: 1}):
+        for growth in ({}, {"r": 1}, {"r": 1, "s": 0}, {"r": 1, "s": 10 ** 9 + 1}, {"r": 1, "s": True},
+                       {"r": 1, "s": 1, "x": 0}, {"r": None, 5: 1}):
             self.assertIs(is_claim(("best", CHAIN, growth)), False)
         for cost in (-1, True, None, Ratio(3), "3"):
             self.assertIs(is_claim(("at most", CHAIN, SIZES, cost)), False)
@@ -348,9 +347,12 @@ class CertificateTest(Case):
             self.assertIs(is_certificate(claim, ([shape], rows)), False)
             self.assertIs(is_certificate(claim, [(shape,), rows]), False)
             self.assertIs(is_certificate(claim, ((shape, None), rows)), False)
-        for rows in ([(0, loop), (1, pool)], [(0, loop)], [(0, loop), (0, pool), (0, pool)], [(1, loop), (0, pool)], [[0, loop], (0, pool)],
-                     [(0, list(loop)), (0, pool)], [(0, (-1, loop[1])), (0, pool)], [(False, loop), (0, pool)], [(0, pool), (0, loop)],
-                     [(-1, loop), (0, pool)], [(2, loop), (0, pool)], [(0, loop + (1,)), (0, pool)], {0: loop, 1: pool}):
+        for rows in ([(0, loop), (1, pool)], [(0, loop)], [(0, loop), (0, pool), (0, pool)], [(1, loop), (0, pool)],
+                     [[0, loop], (0, pool)],
+                     [(0, list(loop)), (0, pool)], [(0, (-1, loop[1])), (0, pool)], [(False, loop), (0, pool)],
+                     [(0, pool), (0, loop)],
+                     [(-1, loop), (0, pool)], [(2, loop), (0, pool)], [(0, loop + (1,)), (0, pool)],
+                     {0: loop, 1: pool}):
             self.assertIs(is_certificate(claim, ((shape, shape), rows)), False)
         unlike = Term([], [(Table.symmetric("A", "r", 2), ("q", "p"))] * 2)
         self.assertIs(is_certificate(claim, ((unlike,), [(0, loop), (0, pool)])), False)
@@ -369,13 +371,15 @@ class CertificateTest(Case):
         for rows in ([(None, first), (None, first), (0, renamed)], [(None, reason), (None, reason), (0, renamed)],
                      [(None, reason), (None, first)], [(None, reason), (None, first), (None, reason)],
                      [(None, reason), (None, ("empty", 1)), (0, renamed)], [(None, None), (None, first), (0, renamed)],
-                     [(None, ("odd", {"i": "i", "j": "j"})), (None, first), (0, renamed)], [(0, reason), (None, first), (0, renamed)]):
+                     [(None, ("odd", {"i": "i", "j": "j"})), (None, first), (0, renamed)],
+                     [(0, reason), (None, first), (0, renamed)]):
             self.assertIs(is_certificate(claim, ((shape,), rows)), False)
         twice = Expression([], [odd, odd.with_number(-5)])
         same, back = (1, {"i": "i", "j": "j"}), (-1, {"i": "j", "j": "i"})
         self.assertIs(is_certificate(("alike", twice, other), ((odd,), [(0, same), (0, same)])), True)
         self.assertIs(is_certificate(("alike", twice, other), ((odd,), [(0, same), (0, back)])), False)
-        self.assertIs(is_certificate(("alike", Expression([], [odd, odd]), other), ((odd,), [(0, same), (0, back)])), True)
+        self.assertIs(is_certificate(("alike", Expression([], [odd, odd]), other), ((odd,), [(0, same), (0, back)])),
+                      True)
         self.assertIs(is_certificate(("alike", other, twice), ((odd,), [(0, back), (0, back)])), True)
 
     def test_alike_at_by_hand(self):
@@ -390,7 +394,8 @@ class CertificateTest(Case):
         self.assertIsNone(certificate_of(("alike at", LOOP, SQUARES, {"r": 2})))
         two = ("alike at", LOOP, POOL, {"r": 2, "x": 5})
         apart = Term([], [(A, ("a", "b")), (A, ("b", "a"))])
-        good = [(0, (1, {"i": "z"})), (1, (1, {"i": "a", "j": "b"})), (0, (1, {"x": "z"})), (1, (1, {"x": "a", "y": "b"}))]
+        good = [(0, (1, {"i": "z"})), (1, (1, {"i": "a", "j": "b"})), (0, (1, {"x": "z"})),
+                (1, (1, {"x": "a", "y": "b"}))]
         self.assertIs(is_certificate(two, ((shape, apart), good)), True)
         self.assertIs(is_certificate(two, ((shape, apart), [good[1], good[0]] + good[2:])), False)
         self.assertIs(is_certificate(two, ((shape, apart), good[2:] + good[:2])), False)
@@ -400,13 +405,15 @@ class CertificateTest(Case):
         self.assertIs(is_certificate(("unlike", LOOP, SQUARES), (store, ())), True)
         self.assertIs(is_certificate(("escapes", SQUARES, LOOP), (store, ())), True)
         self.assertIs(is_certificate(("escapes", LOOP, SQUARES), (store, ())), False)
-        for value in ([store, ()], (store,), (store, (), 1), (store, []), (store, (0,)), (None, ()), (Store({"r": 2}), ()), (Store({}), ()),
+        for value in ([store, ()], (store,), (store, (), 1), (store, []), (store, (0,)), (None, ()),
+                      (Store({"r": 2}), ()), (Store({}), ()),
                       (Store({"r": 2}, (Table("A", ["r"]), {(0,): 1})), ()), ((), store)):
             self.assertIs(is_certificate(("unlike", LOOP, SQUARES), value), False)
             self.assertIs(is_certificate(("escapes", SQUARES, LOOP), value), False)
         one = Expression(["r"], [Term([("i", "r")], [(A, ("i", "j"))])])
         two = Expression(["r"], [Term([("i", "r")], [(A, ("j", "i"))])])
-        for places, fine in (((0,), True), ((1,), True), ((2,), False), ((-1,), False), ((True,), False), ((), False), ([0], False)):
+        for places, fine in (((0,), True), ((1,), True), ((2,), False), ((-1,), False), ((True,), False), ((), False),
+                             ([0], False)):
             self.assertIs(is_certificate(("unlike", one, two), (Store({"r": 2}, (A, {(0, 1): 1})), places)), fine)
         great = Store({"r": 10 ** 9}, (A, {(5, 10 ** 9 - 1): 1}))
         self.assertIs(is_certificate(("unlike", one, two), (great, (5,))), True)
@@ -425,7 +432,8 @@ class CertificateTest(Case):
         names = {"i": "x", "j": "y", "k": "y"}
         for rows in ([(1, names)], ((1, names),)):
             self.assertIs(is_certificate(("contains", one, other), rows), True)
-        for rows in ([(0, names)], [], [(1, names)] * 2, [[1, names]], [(1, {**names, "k": "x"})], [(True, names)], [(2, names)], [(-1, names)],
+        for rows in ([(0, names)], [], [(1, names)] * 2, [[1, names]], [(1, {**names, "k": "x"})], [(True, names)],
+                     [(2, names)], [(-1, names)],
                      [(1, {"i": "x", "j": "y"})], {1: names}, [(1, names, 0)], (1, names)):
             self.assertIs(is_certificate(("contains", one, other), rows), False)
         self.assertIs(is_certificate(("contains", one, other * 0), []), True)

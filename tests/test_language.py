@@ -186,6 +186,47 @@ class LanguageTest(unittest.TestCase):
         self.assertIn("name", stored)
         self.assertEqual(methods & stored, set())
 
+    def run_by_operators(self):
+        """All functions and methods that operators, properties and the like can call, by their names."""
+        known, waiting = {}, []
+        for name, node in nodes(ast.FunctionDef):
+            known.setdefault(node.name, []).append(node)
+            marks = [ast.unparse(mark) for mark in node.decorator_list]
+            if node.name in DOUBLE - {"__init__"} or "property" in marks:
+                waiting.append(node)
+        for name, node in nodes(ast.ClassDef):
+            own = [one for one in node.body if isinstance(one, ast.FunctionDef) and one.name == "__init__"]
+            known.setdefault(node.name, []).extend(own)
+        found = []
+        while waiting:
+            node = waiting.pop()
+            if node not in found:
+                found.append(node)
+                calls = [one.func for one in ast.walk(node) if isinstance(one, ast.Call)]
+                calls += [one.exc for one in ast.walk(node) if isinstance(one, ast.Raise) and isinstance(one.exc, ast.Name)]
+                for one in calls:
+                    waiting.extend(known.get(getattr(one, "id", None) or getattr(one, "attr", None), []))
+        return found
+
+    def test_operators(self):
+        """L5, L28: an operator changes nothing but what it creates, and calls nothing that it is handed or holds."""
+        run = self.run_by_operators()
+        self.assertTrue({"__add__", "__init__", "check_tables", "with_number"} <= {node.name for node in run})
+        for node in run:
+            own = {one.targets[0].id for one in ast.walk(node) if isinstance(one, ast.Assign)
+                   and isinstance(one.targets[0], ast.Name)
+                   and isinstance(one.value, (ast.List, ast.Dict, ast.ListComp, ast.DictComp, ast.BinOp))}
+            handed = {one.arg for one in node.args.args}
+            for one in ast.walk(node):
+                if isinstance(one, ast.Attribute) and isinstance(one.ctx, ast.Store):
+                    self.assertEqual((node.name, one.value.id), ("__init__", "self"))
+                if isinstance(one, ast.Subscript) and isinstance(one.ctx, ast.Store):
+                    self.assertIn(one.value.id, own - handed, node.name)
+                if isinstance(one, ast.Call) and isinstance(one.func, ast.Attribute) and one.func.attr in MODIFYING:
+                    self.assertIn(one.func.value.id, own - handed, node.name)
+                if isinstance(one, ast.Call) and isinstance(one.func, ast.Name):
+                    self.assertNotIn(one.func.id, handed - {"cls"}, node.name)
+
     def test_generators(self):
         """L23: what yields is iterated on the spot, and nothing else has its name."""
         own = [node.name for name, node in nodes(ast.FunctionDef)]

@@ -130,7 +130,8 @@ class SignRunsTest(Case):
         """Roots that are double, close to one another, between two numbers, below 1, and none."""
         chance = seeded(37)
         for _ in range(300):
-            kinds = [Polynomial(-chance.randint(-3, 40), 1), Polynomial(-chance.randint(-3, 40), chance.choice([2, 3, -1])),
+            kinds = [Polynomial(-chance.randint(-3, 40), 1), Polynomial(-chance.randint(-3, 40),
+                    chance.choice([2, 3, -1])),
                      Polynomial(chance.randint(1, 9), chance.randint(-5, 5), 3), Polynomial(-1, chance.randint(1, 5)),
                      Polynomial(0, 1)]
             one = product(*[chance.choice(kinds) for _ in range(chance.randint(1, 6))])
@@ -147,7 +148,8 @@ class SignRunsTest(Case):
         self.assertEqual(sign_runs(Polynomial(-5, 2)), [(1, -1), (3, 1)])
         self.assertEqual(sign_runs(Polynomial(-5, 2) * Polynomial(-5, 2)), [(1, 1)])
         self.assertEqual(sign_runs(product(Polynomial(-21, 10), Polynomial(-29, 10))), [(1, 1)])
-        self.assertEqual(sign_runs(product(Polynomial(-21, 10), Polynomial(-29, 10), Polynomial(-25, 10))), [(1, -1), (3, 1)])
+        self.assertEqual(sign_runs(product(Polynomial(-21, 10), Polynomial(-29, 10), Polynomial(-25, 10))),
+                         [(1, -1), (3, 1)])
 
     def test_great(self):
         """Starts of many digits, close to one another."""

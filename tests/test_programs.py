@@ -1,6 +1,7 @@
 """[44] Programs, definitions, meanings, idle definitions and tables, the first difference."""
 
-from helpers import (Case, Thing, as_fractions, many_partitions, many_tables, random_store, random_term, searched, seeded,
+from helpers import (Case, Thing, as_fractions, many_partitions, many_tables, random_store, random_term, searched,
+                     seeded,
                      wrong_values)
 from slotsums.errors import (InvalidDefinitions, InvalidSizes, InvalidSum, OtherNames, OtherSorts, OtherTable,
                              SlotsumsError, TooMany, UnknownName, UnknownSort)
@@ -82,7 +83,8 @@ class ProgramTest(Case):
     def test_parts(self):
         self.assertEqual((PROGRAM.names(), PROGRAM.tables()), (["B", "t"], [A]))
         self.assertEqual((PROGRAM.definition("B"), PROGRAM.definition(name="t")), (FIRST, TRACE))
-        mixed = Program([("z", alone([], [(V, ("i",)), (A, ("i", "j"))])), ("a", alone([], [(Table("Q", ["x"]), ("i",))], 0))])
+        mixed = Program([("z", alone([], [(V, ("i",)), (A, ("i", "j"))])),
+                         ("a", alone([], [(Table("Q", ["x"]), ("i",))], 0))])
         self.assertEqual((mixed.names(), [table.name for table in mixed.tables()]), (["z", "a"], ["A", "Q", "V"]))
         self.assertEqual((Program([]).names(), Program(()).tables()), ([], []))
         self.assertEqual(Program(definitions=(("B", FIRST), ("t", TRACE))), PROGRAM)
@@ -95,7 +97,8 @@ class ProgramTest(Case):
 
     def test_equal(self):
         self.assertEqual(PROGRAM, Program([("B", FIRST), ("t", TRACE)]))
-        for other in (Program([("B", FIRST)]), Program([("B", FIRST), ("u", TRACE)]), Program([("B", FIRST), ("t", TRACE * 2)]),
+        for other in (Program([("B", FIRST)]), Program([("B", FIRST), ("u", TRACE)]),
+                      Program([("B", FIRST), ("t", TRACE * 2)]),
                       Program([]), FIRST, [("B", FIRST), ("t", TRACE)], None, Thing()):
             self.assertFalse(PROGRAM == other)
             self.assertTrue(PROGRAM != other)
@@ -138,7 +141,8 @@ class ProgramTest(Case):
         table = Table("D", ["s", "s"])
         rows = [
             (alone([("a", "s"), ("b", "s")], [(table, ("a", "b"))]), alone([("a", "s"), ("a", "s")], [(V, ("a",))])),
-            (alone([("a", "s")], [(table, ("a", "b")), (A, ("b", "c"))]), alone([("a", "s")], [(V, ("a",)), (A, ("a", "c"))])),
+            (alone([("a", "s")], [(table, ("a", "b")), (A, ("b", "c"))]),
+             alone([("a", "s")], [(V, ("a",)), (A, ("a", "c"))])),
             (alone([], [(table, ("a", "b")), (table, ("b", "c"))]), alone([], [(V, ("a",)), (V, ("a",))])),
             (alone([], [(table, ("a", "a"))]), alone([], [(V, ("a",))])),
             (alone([("a", "s"), ("b", "s")], [(table, ("c", "b")), (table, ("c", "a"))]),
@@ -160,14 +164,16 @@ class ProgramTest(Case):
         for expression in (alone([], [(table, ("a", "b"))]), alone([("a", "s")], [(table, ("a", "b"))]),
                            alone([], [(table, ("a", "b")), (table, ("c", "b"))])):
             self.refuses(InvalidSum, {"position": 1}, Program, [("D", spread), ("x", expression)])
-            self.refuses(InvalidSum, {"position": 2}, Program, [("D", spread), ("y", FIRST), ("x", expression), ("z", expression)])
+            self.refuses(InvalidSum, {"position": 2}, Program, [("D", spread), ("y", FIRST), ("x", expression),
+                                                                ("z", expression)])
 
     def test_terms_with_the_number_0(self):
         """They are left out ahead of the multiplying: of the definition and of the meaning."""
         big = Expression(["s"], [Term([("i", "s")], [(V, ("i",))] * k) for k in range(1, 6)])
         table = Table("D", ["s"])
         heavy = Term([], [(table, ("i",))] * 7, 0)
-        program = Program([("D", big), ("x", Expression([], [heavy, Term([], [(table, ("i",))])])), ("y", Expression([], [heavy]))])
+        program = Program([("D", big), ("x", Expression([], [heavy, Term([], [(table, ("i",))])])),
+                           ("y", Expression([], [heavy]))])
         self.assertEqual([len(put_in(program, name).terms()) for name in "Dxy"], [5, 5, 0])
 
 
@@ -179,12 +185,14 @@ class LimitsTest(Case):
         table = Table("D", ["s"])
         once = Term([], [(table, ("i",))])
         self.assertEqual(len(put_in(Program([("D", five), ("x", Expression([], [once] * 12))]), "x").terms()), 5)
-        self.refuses(TooMany, {"kind": "terms", "limit": 60}, Program, [("D", five), ("x", Expression([], [once] * 12 + [Term([], [])]))])
+        self.refuses(TooMany, {"kind": "terms", "limit": 60}, Program, [("D", five),
+                ("x", Expression([], [once] * 12 + [Term([], [])]))])
         # A meaning is the one form: ten terms that are one.
         self.assertEqual(len(put_in(Program([("D", ten), ("x", Expression([], [once] * 60))]), "x").terms()), 1)
         two = Term([], [(table, ("i",)), (table, ("j",))])
         self.assertEqual(len(put_in(Program([("D", five), ("x", Expression([], [two, two]))]), "x").terms()), 15)
-        self.refuses(TooMany, {"kind": "terms", "limit": 60}, Program, [("D", five), ("x", Expression([], [two, two, two]))])
+        self.refuses(TooMany, {"kind": "terms", "limit": 60}, Program, [("D", five),
+                ("x", Expression([], [two, two, two]))])
         seven = Term([], [(table, ("i",))] * 7)
         self.refuses(TooMany, {"kind": "terms", "limit": 60}, Program, [("D", five), ("x", Expression([], [seven]))])
         # A meaning without terms leaves none.
@@ -217,26 +225,38 @@ class LimitsTest(Case):
         long = Term([], [(table, ("i",)), (V, ("i",)), (table, ("j",)), (V, ("j",)), (table, ("i",)), (table, ("i",))])
         defined = ("D", Expression(["s"], rows))
         self.refuses(InvalidSum, {"position": 1}, Program, [defined, ("x", Expression([], [sum_over]))])
-        self.refuses(TooMany, {"kind": "terms", "limit": 60}, Program, [defined, ("x", Expression([], [sum_over] * 13))])
-        self.refuses(TooMany, {"kind": "terms", "limit": 60}, Program, [defined, ("x", Expression([], [sum_over, long]))])
-        four = ("D", Expression(["s"], [lone, Term([("i", "s")], [(A, ("i", "j")), (A, ("k", "l")), (V, ("i",)), (V, ("i",))])]))
+        self.refuses(TooMany, {"kind": "terms", "limit": 60}, Program, [defined,
+                ("x", Expression([], [sum_over] * 13))])
+        self.refuses(TooMany, {"kind": "terms", "limit": 60}, Program, [defined,
+                ("x", Expression([], [sum_over, long]))])
+        four = ("D", Expression(["s"], [lone, Term([("i", "s")], [(A, ("i", "j")), (A, ("k", "l")), (V, ("i",)),
+                                                                  (V, ("i",))])]))
         both = Term([], [(table, ("i",)), (V, ("i",)), (table, ("j",)), (V, ("j",))])
         self.refuses(InvalidSum, {"position": 1}, Program, [four, ("x", Expression([], [both, sum_over]))])
         self.refuses(TooMany, {"kind": "factors", "limit": 7}, Program, [four, ("x", Expression([], [both]))])
+        # Each kind for all terms: a later term with too many factors comes ahead of an earlier one with too many names.
+        wide = ("W", alone([("i", "s")], [(A, ("i", "j")), (A, ("k", "l"))]))
+        names = Term([], [(Table("W", ["s"]), ("i",)), (Table("W", ["s"]), ("j",))])
+        factors = Term([], [(Table("W", ["s"]), ("i",))] + [(V, ("i",))] * 6)
+        self.refuses(TooMany, {"kind": "names", "limit": 7}, Program, [wide, ("x", Expression([], [names]))])
+        self.refuses(TooMany, {"kind": "factors", "limit": 7}, Program, [wide, ("x", Expression([], [names, factors]))])
         self.refuses(TooMany, {"kind": "factors", "limit": 7}, Program,
                      [four, ("x", Expression([], [both])), ("y", Expression([], [sum_over] * 60))])
         self.refuses(OtherTable, {"name": "V"}, Program,
-                     [four, ("x", Expression([], [both])), ("y", Expression([], [Term([], [(Table("V", ["q"]), ("i",))])]))])
+                     [four, ("x", Expression([], [both])), ("y", Expression([],
+                             [Term([], [(Table("V", ["q"]), ("i",))])]))])
 
 
 class WrongProgramTest(Case):
     def test_definitions(self):
         for value in (None, True, 5, "B", {"B": FIRST}, FIRST, Thing()):
             self.refuses(InvalidDefinitions, {"position": None}, Program, value)
-        for value in wrong_values() + [("B", FIRST, 1), ["t", TRACE], ("t", TRACE.terms()[0]), ("t1", TRACE), (TRACE, "t"), ("t", None),
+        for value in wrong_values() + [("B", FIRST, 1), ["t", TRACE], ("t", TRACE.terms()[0]), ("t1", TRACE),
+                                       (TRACE, "t"), ("t", None),
                                        ("B", TRACE), ("", TRACE), (None, TRACE), ("nineletts", TRACE), (b"t", TRACE)]:
             self.refuses(InvalidDefinitions, {"position": 1}, Program, [("B", FIRST), value, None])
-            self.refuses(InvalidDefinitions, {"position": 1}, Program, (("A", FIRST), ("A" if not is_name(value) else "A", value)))
+            self.refuses(InvalidDefinitions, {"position": 1}, Program, (("A", FIRST),
+                    ("A" if not is_name(value) else "A", value)))
 
     def test_other_table(self):
         a, b = alone([], [(A, ("i", "i"))]), alone([], [(B, ("i", "i"))])
@@ -245,19 +265,24 @@ class WrongProgramTest(Case):
         self.refuses(OtherTable, {"name": "A"}, Program, [("x", a), ("A", FIRST)])
         self.refuses(OtherTable, {"name": "B"}, Program, [("t", b), ("B", FIRST)])
         # An earlier one for which it does not stand: other sorts, or a greater group.
-        for table in (Table("B", ["s"]), Table("B", ["s", "x"]), Table.symmetric("B", "s", 2), Table.alternating("B", "s", 2)):
+        for table in (Table("B", ["s"]), Table("B", ["s", "x"]), Table.symmetric("B", "s", 2),
+                      Table.alternating("B", "s", 2)):
             names = ("i", "j")[:len(table.slots())]
             self.refuses(OtherTable, {"name": "B"}, Program, [("B", FIRST), ("t", alone([], [(table, names)], 0))])
-        self.assertEqual(Program([("B", FIRST), ("t", alone([], [(Table("B", ["s", "s"], ((0, 1), 1)), ("i", "j"))]))]).names(), ["B", "t"])
+        self.assertEqual(Program([("B", FIRST), ("t", alone([], [(Table("B", ["s", "s"], ((0, 1), 1)),
+                                                                  ("i", "j"))]))]).names(), ["B", "t"])
         # Not equal to the table of an earlier definition.
-        self.refuses(OtherTable, {"name": "A"}, Program, [("x", a), ("y", alone([], [(Table.symmetric("A", "s", 2), ("i", "i"))]))])
+        self.refuses(OtherTable, {"name": "A"}, Program, [("x", a), ("y",
+                alone([], [(Table.symmetric("A", "s", 2), ("i", "i"))]))])
         # The first definition, and in it the first table by name.
         two = alone([], [(Table("Z", ["s"]), ("i",)), (Table("V", ["q"]), ("j",)), (A, ("i", "i"))])
-        self.refuses(OtherTable, {"name": "V"}, Program, [("x", alone([], [(V, ("i",))])), ("y", two), ("Z", FIRST), ("q", b), ("B", a)])
+        self.refuses(OtherTable, {"name": "V"}, Program, [("x", alone([], [(V, ("i",))])), ("y", two), ("Z", FIRST),
+                                                          ("q", b), ("B", a)])
         self.refuses(OtherTable, {"name": "A"}, Program, [("A", FIRST), ("x", two)])
         # A definition without sorts, or with more than four, has no table that stands for it.
         five = Expression(["s"] * 5, [])
-        self.refuses(OtherTable, {"name": "B"}, Program, [("B", five), ("x", alone([], [(Table("B", ["s"] * 4), ("i",) * 4)]))])
+        self.refuses(OtherTable, {"name": "B"}, Program, [("B", five), ("x",
+                alone([], [(Table("B", ["s"] * 4), ("i",) * 4)]))])
         self.refuses(OtherTable, {"name": "B"}, Program, [("B", Expression([], [])), ("x", b)])
         self.refuses(InvalidDefinitions, {"position": 1}, Program, [("A", a), ("A", a)])
 
@@ -318,13 +343,15 @@ class IdleTest(Case):
         self.assertEqual(idle_definitions(program, "x"), ["E"])
 
     def test_tables(self):
-        lone = Program([("x", alone([], [(V, ("i",))])), ("y", alone([], [(A, ("i", "j")), (V, ("i",))])), ("z", Expression.zero([]))])
+        lone = Program([("x", alone([], [(V, ("i",))])), ("y", alone([], [(A, ("i", "j")), (V, ("i",))])),
+                        ("z", Expression.zero([]))])
         self.assertEqual(idle_tables(lone, "x", {"s": 1}), ["A"])
         self.assertEqual(idle_tables(program=lone, name="y", sizes={"s": 3}), [])
         self.assertEqual(idle_tables(lone, "y", {"s": 0}), ["A", "V"])
         self.assertEqual(idle_tables(lone, "z", {}), ["A", "V"])
         # A table that cancels where the size is 1, and not where it is 2.
-        cancels = Expression([], [Term([], [(A, ("i", "j"))]), Term([], [(A, ("i", "i"))], -1), Term([], [(V, ("i",))])])
+        cancels = Expression([], [Term([], [(A, ("i", "j"))]), Term([], [(A, ("i", "i"))], -1),
+                                  Term([], [(V, ("i",))])])
         program = Program([("x", cancels)])
         self.assertEqual([idle_tables(program, "x", {"s": size}) for size in (0, 1, 2)], [["A", "V"], ["A"], []])
 
@@ -339,7 +366,8 @@ class IdleTest(Case):
                 sizes = {"r": chance.randint(0, 3), "s": chance.randint(0, 2)}
                 want = []
                 for table in program.tables():
-                    terms = [Term(term.told(), [(table.renamed("new") if own == table else own, names) for own, names in term.factors()],
+                    terms = [Term(term.told(), [(table.renamed("new") if own == table else own, names) for own,
+                                                names in term.factors()],
                                   term.number) for term in meaning.terms()]
                     if alike_at(meaning, Expression(meaning.sorts(), terms), sizes):
                         want.append(table.name)
@@ -389,7 +417,8 @@ class FirstDifferenceTest(Case):
         found = 0
         programs = some_programs(447, 40)
         for program, tables, definitions in programs:
-            changed = [(name, chance.choice([expression, expression, expression * 2, Expression.zero(expression.sorts())]))
+            changed = [(name, chance.choice([expression, expression, expression * 2,
+                                             Expression.zero(expression.sorts())]))
                        for name, expression in definitions]
             other = Program(changed)
             want = None
@@ -411,7 +440,8 @@ class FirstDifferenceTest(Case):
         self.refuses(OtherNames, {"name": "b"}, first_difference, Program([("c", FIRST)]), two)
         unlike = alone([("i", "s"), ("k", "s")], [(Table.symmetric("A", "s", 2), ("i", "k"))])
         other_sorts = alone([("i", "s")], [(V, ("i",))])
-        self.refuses(OtherSorts, {"position": 1}, first_difference, Program([("a", FIRST)]), Program([("a", other_sorts)]))
+        self.refuses(OtherSorts, {"position": 1}, first_difference, Program([("a", FIRST)]),
+                     Program([("a", other_sorts)]))
         self.refuses(OtherTable, {"name": "A"}, first_difference, Program([("a", FIRST)]), Program([("a", unlike)]))
         # Up to the first difference only.
         zero = Expression.zero([])

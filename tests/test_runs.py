@@ -2,7 +2,8 @@
 
 import itertools
 
-from helpers import (Case, as_fractions, assignments, fraction, leaves, many_tables, random_store, random_term, searched,
+from helpers import (Case, as_fractions, assignments, fraction, leaves, many_tables, random_store, random_term,
+                     searched,
                      searched_cost, searched_kept, seeded, wrong_values)
 from slotsums.errors import InvalidPlan, NoFactors, OtherTable, UnknownSort
 from slotsums.expressions import Expression
@@ -16,7 +17,8 @@ from slotsums.values import value_of
 
 A, B, C = Table("A", ["u", "f"]), Table("B", ["f", "u"]), Table("C", ["u", "f"])
 CHAIN = Term([("i", "u"), ("l", "f")], [(A, ("i", "j")), (B, ("j", "k")), (C, ("k", "l"))], Ratio(1, 2))
-STORE = Store({"u": 2, "f": 3}, (A, {(0, 0): 1, (0, 2): 2, (1, 1): 3}), (B, {(0, 1): 5, (2, 1): Ratio(1, 3), (1, 0): -1}),
+STORE = Store({"u": 2, "f": 3}, (A, {(0, 0): 1, (0, 2): 2, (1, 1): 3}),
+              (B, {(0, 1): 5, (2, 1): Ratio(1, 3), (1, 0): -1}),
               (C, {(1, 0): 7, (0, 2): 1, (1, 1): -2}))
 LINKS = Table("E", ["u", "u"])
 
@@ -98,7 +100,8 @@ class RunTest(Case):
         self.assertTrue(20 < empty < 120)
 
     def test_all_plans(self):
-        ring = Term([("a", "u")], [(LINKS, ("a", "b")), (LINKS, ("b", "c")), (LINKS, ("c", "d")), (LINKS, ("d", "a"))], -3)
+        ring = Term([("a", "u")], [(LINKS, ("a", "b")), (LINKS, ("b", "c")), (LINKS, ("c", "d")), (LINKS, ("d", "a"))],
+                    -3)
         store = Store({"u": 3}, (LINKS, {(k, (k + j) % 3): k + j - 1 for k in range(3) for j in range(2)}))
         want = value_of(alone(ring), store)
         self.assertTrue(want)
@@ -113,7 +116,8 @@ class RunTest(Case):
 
     def test_told_rows(self):
         """Names told twice, and lone names, which have no part in the count."""
-        term = Term([("i", "u"), ("t", "f"), ("i", "u"), ("t", "f"), ("x", "f")], [(LINKS, ("i", "j")), (LINKS, ("j", "i"))])
+        term = Term([("i", "u"), ("t", "f"), ("i", "u"), ("t", "f"), ("x", "f")],
+                    [(LINKS, ("i", "j")), (LINKS, ("j", "i"))])
         store = Store({"u": 2, "f": 2}, (LINKS, {(0, 1): 2, (1, 0): 3}))
         value, count = run_plan(term, (0, 1), store)
         self.assertEqual(value, {(i, t, i, t, x): Ratio(6) for i in range(2) for t in range(2) for x in range(2)})

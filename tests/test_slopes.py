@@ -59,7 +59,8 @@ class SlopeTest(Case):
                 self.assertEqual(sums, want.get(told, 0))
                 for places in places_of(table, store):
                     for order, sign in table.turns():
-                        self.assertEqual(values.get(told + image(places, order), 0), sign * values.get(told + places, 0))
+                        self.assertEqual(values.get(told + image(places, order), 0),
+                                         sign * values.get(told + places, 0))
             self.assertEqual(len(slope.sorts()), many + len(table.slots()))
         self.assertTrue(found > 20)
 
@@ -89,16 +90,25 @@ class SlopeTest(Case):
     def test_value_that_is_none(self):
         """One number or one name otherwise, other sorts, unlike tables, other kinds of values."""
         terms = TWICE.terms()
-        for value in (TWICE * 2, -TWICE, TWICE + TWICE, Expression.zero(["row", "row"]), Expression(["row"], []), SQUARE,
+        for value in (TWICE * 2, -TWICE, TWICE + TWICE, Expression.zero(["row", "row"]), Expression(["row"], []),
+                      SQUARE,
                       Expression(["row", "row"], [Term([("p", "row"), ("q", "row")], [(A, ("p", "q"))], 2)]),
                       Expression(["row", "row"], [Term([("p", "row"), ("q", "row")], [(A, ("q", "q"))], 2)]),
                       Expression(["row", "row"], [Term([("p", "row"), ("p", "row")], [(A, ("p", "p"))], 2)]),
-                      Expression(["row", "row"], [Term([("p", "row"), ("q", "row")], [(Table.symmetric("A", "row", 2), ("q", "p"))], 2)]),
-                      Expression(["row", "row"], [Term([("p", "row"), ("q", "row")], [(Table("C", ["row", "row"]), ("q", "p"))], 2)]),
+                      Expression(["row", "row"], [Term([("p", "row"), ("q", "row")],
+                                                       [(Table.symmetric("A", "row", 2), ("q", "p"))], 2)]),
+                      Expression(["row", "row"], [Term([("p", "row"), ("q", "row")],
+                                                       [(Table("C", ["row", "row"]), ("q", "p"))], 2)]),
                       terms[0], terms):
             self.assertIs(is_slope(SQUARE, A, value), False)
         for value in wrong_values():
             self.assertIs(is_slope(SQUARE, A, value), False)
+        # The same but for the turns of the table.
+        twin = Expression([], [Term([], [(A, ("i", "j")), (A, ("i", "j"))])])
+        for table, told in ((A, True), (Table.symmetric("A", "row", 2), False),
+                            (Table.alternating("A", "row", 2), False)):
+            value = Expression(["row", "row"], [Term([("p", "row"), ("q", "row")], [(table, ("p", "q"))], 2)])
+            self.assertIs(is_slope(twin, A, value), told)
         halves = Expression(["row", "row"], [terms[0].with_number(Ratio(1, 2)), terms[0].with_number(Ratio(3, 2))])
         self.assertIs(is_slope(SQUARE, A, halves), True)
 
@@ -146,7 +156,8 @@ def naive_slopes(term, store, weights):
         rows = {}
         for places in places_of(table, store):
             if table.least(places)[1] == places:
-                total = sum((fraction(slope.get(told + places, 0)) * fraction(number) for told, number in weights.items()),
+                total = sum((fraction(slope.get(told + places, 0)) * fraction(number) for told,
+                             number in weights.items()),
                             Fraction(0))
                 if total:
                     rows[places] = total
@@ -160,7 +171,8 @@ class SlopeRunTest(Case):
         values, slopes, count = slope_run(term, plan, store, weights)
         sorts = [sort for name, sort in term.told()]
         self.assertEqual(values, value_of(Expression(sorts, [term]), store))
-        self.assertEqual({name: as_fractions(rows) for name, rows in slopes.items()}, naive_slopes(term, store, weights))
+        self.assertEqual({name: as_fractions(rows) for name, rows in slopes.items()},
+                         naive_slopes(term, store, weights))
         self.assertEqual(list(slopes), sorted(slopes))
         for rows in slopes.values():
             self.assertEqual(list(rows), sorted(rows))
@@ -204,7 +216,8 @@ class SlopeRunTest(Case):
 
     def test_each_plan(self):
         """All plans give the same value and the same slopes."""
-        term = Term([("a", "r")], [(A2, ("a", "b")), (A2, ("b", "c")), (S2, ("c", "d")), (T2, ("d", "a"))], Ratio(-1, 2))
+        term = Term([("a", "r")], [(A2, ("a", "b")), (A2, ("b", "c")), (S2, ("c", "d")), (T2, ("d", "a"))],
+                    Ratio(-1, 2))
         store = random_store(seeded(402), [A2, S2, T2], {"r": 3}, dense=0.9)
         weights = {(0,): 2, (2,): Ratio(1, 7)}
         rows = [self.check(term, plan, store, weights) for plan in all_plans(term)]
@@ -227,7 +240,8 @@ class SlopeRunTest(Case):
         self.assertEqual(self.check(term, 0, store, {(1,): 2}),
                          ({(0,): Ratio(4)}, {"B": {(1, 0): Ratio(8), (1, 1): Ratio(8), (1, 2): Ratio(8)}}, 0))
         none = Term([], [(A, ("i", "i"))])
-        self.assertEqual(self.check(none, 0, Store({"row": 2}), {(): 5}), ({}, {"A": {(0, 0): Ratio(5), (1, 1): Ratio(5)}}, 0))
+        self.assertEqual(self.check(none, 0, Store({"row": 2}), {(): 5}),
+                         ({}, {"A": {(0, 0): Ratio(5), (1, 1): Ratio(5)}}, 0))
         self.assertEqual(self.check(none, 0, Store({"row": 2}), {}), ({}, {"A": {}}, 0))
 
     def test_number_0(self):

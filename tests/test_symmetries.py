@@ -120,7 +120,8 @@ class OwnTurnsTest(Case):
         more = many_partitions(10)
         half = more[:2] + more[4:5] + more[7:20]
         self.assertEqual(own_turns(Expression([], half), {"r": 1}), [((), 1)])
-        self.refuses(TooMany, {"kind": "partitions", "limit": 4000}, own_turns, Expression([], half + more[20:]), {"r": 1})
+        self.refuses(TooMany, {"kind": "partitions", "limit": 4000}, own_turns, Expression([], half + more[20:]),
+                     {"r": 1})
         self.assertEqual(own_turns(Expression([], terms)), [((), 1)])
 
     def test_copies(self):

@@ -100,14 +100,22 @@ class TextsCase(Case):
                 swapped = list(lines)
                 swapped[at], swapped[to] = lines[to], lines[at]
                 others.append(swapped)
-            for wrong in {line + " ", " " + line, line.replace(" ", "  ", 1), line.replace(",", ", ", 1), line.replace(", ", ",", 1),
-                          line.replace("1", "01", 1), line.replace("1", "+1", 1), line.replace("/2", "/4", 1), line.replace("[", "", 1),
-                          line.replace("]", "", 1), line.replace("[", "[[", 1), line.replace(":", "", 1), line.replace(":", " :", 1),
-                          line.replace("row", "rows", 1), line.replace("row", "col", 1), line.replace("table", "Table", 1),
-                          line.replace("turn", "turn 0", 1), line.replace("-", "+", 1), line.replace("+", "-", 1), line[:-1],
-                          line + ";", line + " A[i, j]", line.replace("A", "AA"), line.replace("A", "a1"), line[1:], line.upper(),
-                          line.replace("7", "-0", 1), line.replace("7", "2/1", 1), line.replace("7", "0/3", 1), line.replace("7", "", 1),
-                          line.replace("7", "3/0", 1), line.replace("7", "7/", 1), line.replace("7", "1/-7", 1), line.replace("7", "- 7", 1)}:
+            for wrong in {line + " ", " " + line, line.replace(" ", "  ", 1), line.replace(",", ", ", 1),
+                          line.replace(", ", ",", 1),
+                          line.replace("1", "01", 1), line.replace("1", "+1", 1), line.replace("/2", "/4", 1),
+                          line.replace("[", "", 1),
+                          line.replace("]", "", 1), line.replace("[", "[[", 1), line.replace(":", "", 1),
+                          line.replace(":", " :", 1),
+                          line.replace("row", "rows", 1), line.replace("row", "col", 1),
+                          line.replace("table", "Table", 1),
+                          line.replace("turn", "turn 0", 1), line.replace("-", "+", 1), line.replace("+", "-", 1),
+                          line[:-1],
+                          line + ";", line + " A[i, j]", line.replace("A", "AA"), line.replace("A", "a1"), line[1:],
+                          line.upper(),
+                          line.replace("7", "-0", 1), line.replace("7", "2/1", 1), line.replace("7", "0/3", 1),
+                          line.replace("7", "", 1),
+                          line.replace("7", "3/0", 1), line.replace("7", "7/", 1), line.replace("7", "1/-7", 1),
+                          line.replace("7", "- 7", 1)}:
                 others.append(lines[:at] + [wrong] + lines[at + 1:])
             for other in others:
                 count += self.check(text_of(other), read, written, completed) is not None
@@ -119,7 +127,8 @@ class TableTest(TextsCase):
         self.assertEqual(table_text(Table.symmetric("A", "row", 2).renamed("A")), "table A: row, row; turn 1 0 +\n")
         self.assertEqual(table_text(T), "table T: row, row; turn 1 0 -\n")
         self.assertEqual(table_text(table=Table("V", ["x"])), "table V: x\n")
-        self.assertEqual(table_text(Table("C", ["x"] * 3, ((1, 2, 0), 1))), "table C: x, x, x; turn 1 2 0 +; turn 2 0 1 +\n")
+        self.assertEqual(table_text(Table("C", ["x"] * 3, ((1, 2, 0), 1))),
+                         "table C: x, x, x; turn 1 2 0 +; turn 2 0 1 +\n")
         self.assertEqual(table_text(Table("D", ["x", "y", "x"], ((2, 1, 0), -1))), "table D: x, y, x; turn 2 1 0 -\n")
 
     def test_both_ways(self):
@@ -133,14 +142,21 @@ class TableTest(TextsCase):
         for value in wrong_values():
             if not isinstance(value, str):
                 self.refuses(InvalidText, {"line": None}, read_table, value)
-        for line in ("", "table", "table A", "table A:", "table A: ", "table A: row,row", "table A: row row", "table A: row, row;",
+        for line in ("", "table", "table A", "table A:", "table A: ", "table A: row,row", "table A: row row",
+                     "table A: row, row;",
                      "table A: row, row; turn 1 0", "table A: row, row; turn 1 0 *", "table A: row, row; turn 0 1 +",
-                     "table A: row, row; turn 1 0 +; turn 1 0 +", "table A: row, row; turn 1 0 +; turn 0 1 +", "table A: row, row;turn 1 0 +",
-                     "table A: row, row; turn  1 0 +", "table A: row, row; turn 01 0 +", "table A: row, col; turn 1 0 +",
-                     "table A: row, row; turn 1 2 +", "table A: row, row; turn 1 -0 +", "table A: row, row; turn 1 0 + ",
-                     "table A: x, x, x; turn 1 2 0 +", "table A: x, x, x; turn 2 0 1 +; turn 1 2 0 +", "table A: x; turn 0 -",
-                     "table A: x; turn 0 +", "table A: a, a, a, a, a", "table A1: row", "table abcdefghi: row", "table A: row1", " table A: row",
-                     "TABLE A: row", "A: row", "table  A: row", "table A : row", "sum: row", "table A: row, row; turn", "table A: row; ",
+                     "table A: row, row; turn 1 0 +; turn 1 0 +", "table A: row, row; turn 1 0 +; turn 0 1 +",
+                     "table A: row, row;turn 1 0 +",
+                     "table A: row, row; turn  1 0 +", "table A: row, row; turn 01 0 +",
+                     "table A: row, col; turn 1 0 +",
+                     "table A: row, row; turn 1 2 +", "table A: row, row; turn 1 -0 +",
+                     "table A: row, row; turn 1 0 + ",
+                     "table A: x, x, x; turn 1 2 0 +", "table A: x, x, x; turn 2 0 1 +; turn 1 2 0 +",
+                     "table A: x; turn 0 -",
+                     "table A: x; turn 0 +", "table A: a, a, a, a, a", "table A1: row", "table abcdefghi: row",
+                     "table A: row1", " table A: row",
+                     "TABLE A: row", "A: row", "table  A: row", "table A : row", "sum: row", "table A: row, row; turn",
+                     "table A: row; ",
                      "table A: row: row", "table table A: row", "table A: row, row; turn 1 0 + -"):
             self.refuses(InvalidText, {"line": 1}, read_table, line + "\n")
             self.refuses(InvalidText, {"line": 1}, read_table, line + "\ntable B: row\n")
@@ -169,7 +185,8 @@ class ExpressionTest(TextsCase):
         chance = seeded(43)
         for _ in range(150):
             tables = chance.sample(many_tables(), 4)
-            total = random_expression(chance, tables, [chance.choice("rs") for _ in range(chance.randint(0, 4))], most_terms=5)
+            total = random_expression(chance, tables, [chance.choice("rs") for _ in range(chance.randint(0, 4))],
+                                      most_terms=5)
             text = expression_text(total)
             self.assertEqual(read_expression(text), total)
             self.assertEqual(expression_text(read_expression(text)), text)
@@ -181,27 +198,37 @@ class ExpressionTest(TextsCase):
         totals = [TOTAL, Expression.zero([]), Expression.zero(["row"]), Expression([], [Term([], [], 5)] * 3)]
         totals += [random_expression(chance, many_tables()[:6], ["r"], most_terms=4) for _ in range(8)]
         for total in totals:
-            self.check_beginnings(expression_text(total), read_expression, expression_text, completed_sum, self.is_complete)
+            self.check_beginnings(expression_text(total), read_expression, expression_text, completed_sum,
+                                  self.is_complete)
 
     def test_other_lines(self):
         chance = seeded(45)
         totals = [TOTAL] + [random_expression(chance, many_tables()[:8], ["r"], most_terms=4) for _ in range(8)]
-        counts = [self.check_other_lines(expression_text(total), read_expression, expression_text, completed_sum) for total in totals]
+        counts = [self.check_other_lines(expression_text(total), read_expression, expression_text,
+                                         completed_sum) for total in totals]
         self.assertTrue(counts[0] > 60)
 
     def test_lines(self):
         """The line that is told: that of a wrong line, of a table out of sequence, or the one behind the end."""
         tables = "table A: row, row\ntable B: row, col\n"
-        rows = [("", 1), ("\n", 1), ("sum", 1), ("sum:", 1), (tables, 3), (tables + "sum:\n", 4), (tables + "sum:\n1 [] A[i, i]\n", 5),
+        rows = [("", 1), ("\n", 1), ("sum", 1), ("sum:", 1), (tables, 3), (tables + "sum:\n", 4),
+                (tables + "sum:\n1 [] A[i, i]\n", 5),
                 (tables + "1 [] A[i, i]\n", 3), (tables + "sum:\nsum:\n", 4), (tables + "sum:\ntable C: row\n", 4),
-                ("table B: row\ntable A: row\nsum:\n", 2), ("table A: row\ntable A: row\n", 2), ("table A: row\n" * 2, 2),
-                ("table a: row\ntable A: row\n", 2), ("sum: row\n1 []\n", 2), ("sum: row\n1 [i, j]\n", 2), ("sum:\n1 [i]\n", 2),
+                ("table B: row\ntable A: row\nsum:\n", 2), ("table A: row\ntable A: row\n", 2),
+                ("table A: row\n" * 2, 2),
+                ("table a: row\ntable A: row\n", 2), ("sum: row\n1 []\n", 2), ("sum: row\n1 [i, j]\n", 2),
+                ("sum:\n1 [i]\n", 2),
                 ("sum:\n1 [] A[i, i]\n", 2), (tables + "sum:\n1 [] A[i]\n", 4), (tables + "sum:\n1 [] A[i, j, k]\n", 4),
-                (tables + "sum:\n1 [] B[i, i]\n", 4), (tables + "sum: col\n1 [i] A[i, j]\n", 4), (tables + "sum:\n1 [] C[i]\n", 4),
-                ("sum: " + ", ".join(["row"] * 9) + "\n", 1), ("define out:\n", 1), ("sum:\n1 []\n\n", 3), ("sum:\n1 []\n1 []", 3),
-                ("sum:\n1  []\n", 2), ("sum:\n1[]\n", 2), ("sum:\n[]\n", 2), ("sum:\n1 [] \n", 2), ("sum:\n1 []  A[i, i]\n", 2),
-                ("sum:\n-0 []\n", 2), ("sum:\n1/1 []\n", 2), ("sum:\n2/4 []\n", 2), ("sum:\n1/0 []\n", 2), ("sum:\n--1 []\n", 2),
-                ("sum:\n1.5 []\n", 2), ("sum:\n1/-2 []\n", 2), ("sum:\n1/ []\n", 2), ("sum:\n/2 []\n", 2), ("sum:\n1_0 []\n", 2),
+                (tables + "sum:\n1 [] B[i, i]\n", 4), (tables + "sum: col\n1 [i] A[i, j]\n", 4),
+                (tables + "sum:\n1 [] C[i]\n", 4),
+                ("sum: " + ", ".join(["row"] * 9) + "\n", 1), ("define out:\n", 1), ("sum:\n1 []\n\n", 3),
+                ("sum:\n1 []\n1 []", 3),
+                ("sum:\n1  []\n", 2), ("sum:\n1[]\n", 2), ("sum:\n[]\n", 2), ("sum:\n1 [] \n", 2),
+                ("sum:\n1 []  A[i, i]\n", 2),
+                ("sum:\n-0 []\n", 2), ("sum:\n1/1 []\n", 2), ("sum:\n2/4 []\n", 2), ("sum:\n1/0 []\n", 2),
+                ("sum:\n--1 []\n", 2),
+                ("sum:\n1.5 []\n", 2), ("sum:\n1/-2 []\n", 2), ("sum:\n1/ []\n", 2), ("sum:\n/2 []\n", 2),
+                ("sum:\n1_0 []\n", 2),
                 ("sum: \n", 1), ("sum:row\n", 1), ("sum: row,col\n", 1), ("sum: row, \n", 1), ("sum: a1\n", 1)]
         for text, line in rows:
             self.refuses(InvalidText, {"line": line}, read_expression, text)
@@ -266,7 +293,8 @@ class ProgramTest(TextsCase):
             definitions, known = [], list(tables)
             for name in ("one", "two", "tre")[:chance.randint(1, 3)]:
                 sorts = [chance.choice("rs") for _ in range(chance.randint(0, 3))]
-                terms = [random_term(chance, known, told_sorts=sorts, most_factors=2) for _ in range(chance.randint(0, 3))]
+                terms = [random_term(chance, known, told_sorts=sorts, most_factors=2) for _ in range(chance.randint(0,
+                        3))]
                 definitions.append((name, Expression(sorts, terms)))
                 if sorts:
                     known.append(Table(name, sorts))
@@ -282,13 +310,18 @@ class ProgramTest(TextsCase):
 
     def test_lines(self):
         head = "table A: row, row\ndefine out: row\n"
-        rows = [("\n", 1), ("define out:", 1), ("table A: row, row\n", 2), (head, 3), (head + "1 [i] A[i, j]\ndefine out: row\n", 4),
-                (head + "1 [i] A[i, j]\ndefine A: row\n", 4), ("table A: row\ndefine A: row\n", 2), (head + "1 [i] A[i, j] out[i]\n", 3),
+        rows = [("\n", 1), ("define out:", 1), ("table A: row, row\n", 2), (head, 3),
+                (head + "1 [i] A[i, j]\ndefine out: row\n", 4),
+                (head + "1 [i] A[i, j]\ndefine A: row\n", 4), ("table A: row\ndefine A: row\n", 2),
+                (head + "1 [i] A[i, j] out[i]\n", 3),
                 (head + "1 [i] A[i, j]\ntable B: row\n", 4), (head + "1 [i] A[i, j]\ndefine two: row\n1 [i] out[i, i]\n", 5),
-                (head + "1 [i] A[i, j]\ndefine two: row\n1 [i] tre[i]\ndefine tre: row\n", 5), (head + "sum: row\n", 3), ("sum:\n", 1),
-                ("define a1:\n", 1), ("define : row\n", 1), ("define out: row \n", 1), ("define  out: row\n", 1), ("define out\n", 1),
+                (head + "1 [i] A[i, j]\ndefine two: row\n1 [i] tre[i]\ndefine tre: row\n", 5), (head + "sum: row\n", 3),
+                ("sum:\n", 1),
+                ("define a1:\n", 1), ("define : row\n", 1), ("define out: row \n", 1), ("define  out: row\n", 1),
+                ("define out\n", 1),
                 ("define out: row, row, row, row, row\n1 [a, b, c, d, e]\ndefine two:\n1 [] out[a, b, c, d, e]\n", 4),
-                ("define out:\n5 []\ndefine two:\n1 [] out[]\n", 4), ("define out: " + ", ".join(["row"] * 9) + "\n", 1),
+                ("define out:\n5 []\ndefine two:\n1 [] out[]\n", 4), ("define out: " + ", ".join(["row"] * 9) + "\n",
+                        1),
                 ("1 []\n", 1), ("define out:\n" + "1 []\n" * 61, 62)]
         for text, line in rows:
             self.refuses(InvalidText, {"line": line}, read_program, text)

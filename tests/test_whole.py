@@ -2,7 +2,8 @@
 
 import itertools
 
-from helpers import (Case, fraction, many_tables, question_tables, random_expression, random_store, random_term, seeded)
+from helpers import (Case, fraction, many_tables, question_tables, random_expression, random_store, random_term, seeded,
+                     twin_of)
 from slotsums.changes import all_differences, changed_store
 from slotsums.cheapest import bound_table, cheapest_plan
 from slotsums.cores import are_equal_questions, core_of, least_question
@@ -30,7 +31,6 @@ from slotsums.texts import expression_text, program_text, read_expression, read_
 from slotsums.truth import answers_of, contains, escape_of, least_escape_sizes
 from slotsums.values import value_at, value_of
 from slotsums.zeros import mattering_classes, nonzero_places
-from test_judge import twin_of
 
 
 def some_pairs(seed, many, tables):
@@ -193,7 +193,8 @@ class SlopesTest(Case):
             total = random_expression(chance, tables + [table] * 5, ["r"], most_factors=3)
             store = random_store(chance, tables, {"r": 2, "s": 2}, dense=1)
             slope = value_of(slope_of(total, table), store)
-            counted = Expression(["r"], [term.with_number(term.number * [own for own, names in term.factors()].count(table))
+            counted = Expression(["r"], [term.with_number(term.number * [own for own,
+                    names in term.factors()].count(table))
                                          for term in total.terms()])
             values = value_of(counted, store)
             for place in range(2):

@@ -2,7 +2,7 @@
 
 import itertools
 
-from helpers import (Case, assignments, fraction, many_tables, random_expression, searched, seeded, told_places,
+from helpers import (Case, Thing, assignments, fraction, many_tables, random_expression, searched, seeded, told_places,
                      wrong_values)
 from slotsums.errors import (EmptyEntry, InvalidPatterns, InvalidPlaces, InvalidSizes, OtherTable, TooMany,
                              UnknownSort)
@@ -46,7 +46,8 @@ def all_stores(patterns, sizes, entries):
 
 def searched_products(expression, sizes, patterns):
     """For all told places the sums of all products, by all assignments."""
-    known = {table.name: (table, {place for own in places for place in table.class_of(own)}) for table, places in patterns}
+    known = {table.name: (table, {place for own in places for place in table.class_of(own)}) for table,
+             places in patterns}
     found = {}
     for term in expression.terms():
         for given in assignments({name: term.sort_of(name) for name in term.names()}, sizes):
@@ -117,9 +118,11 @@ class NonzeroTest(Case):
     def test_small(self):
         patterns = [(A, [(0, 1), (1, 0)])]
         self.assertEqual(nonzero_places(expression=LOOP, sizes=SIZES, patterns=patterns), [(0,), (1,)])
-        self.assertEqual(mattering_classes(expression=LOOP, sizes=SIZES, patterns=patterns), [("A", (0, 1)), ("A", (1, 0))])
+        self.assertEqual(mattering_classes(expression=LOOP, sizes=SIZES, patterns=patterns),
+                         [("A", (0, 1)), ("A", (1, 0))])
         product = [("A", (0, 1)), ("A", (1, 0))]
-        self.assertEqual(nonzero_product(expression=LOOP, sizes=SIZES, patterns=patterns, places=(0,)), (product, Ratio(1, 2)))
+        self.assertEqual(nonzero_product(expression=LOOP, sizes=SIZES, patterns=patterns, places=(0,)),
+                         (product, Ratio(1, 2)))
         self.assertIs(is_nonzero_product(expression=LOOP, sizes=SIZES, patterns=patterns, places=(0,),
                                          value=(product, Ratio(1, 2))), True)
         store = nonzero_store(expression=LOOP, sizes=SIZES, patterns=patterns, places=(0,))
@@ -170,11 +173,13 @@ class NonzeroTest(Case):
                     ratio = Ratio(number.numerator, number.denominator)
                     for value in ((list(own), ratio), (own, ratio)):
                         self.assertIs(is_nonzero_product(total, sizes, patterns, places, value), True)
-                    wrong = [(list(own), ratio + 1), (list(own), -ratio), (list(own), Ratio(0)), (list(own) + [("A", (0, 0))], ratio),
+                    wrong = [(list(own), ratio + 1), (list(own), -ratio), (list(own), Ratio(0)),
+                             (list(own) + [("A", (0, 0))], ratio),
                              [list(own), ratio], (list(own),), (list(own), ratio, 1), (None, ratio), (list(own), None)]
                     if own:
                         wrong += [(list(own[1:]), ratio), (list(own) + [own[0]], ratio),
-                                  ([list(letter) for letter in own], ratio), ([(own[0][0], list(own[0][1]))] + list(own[1:]), ratio)]
+                                  ([list(letter) for letter in own], ratio),
+                                  ([(own[0][0], list(own[0][1]))] + list(own[1:]), ratio)]
                     if own and own[0] != own[-1]:
                         wrong.append((list(own[::-1]), ratio))
                     for value in wrong:
@@ -261,10 +266,16 @@ class OtherValuesTest(Case):
             self.assertIs(is_nonzero_product(LOOP, SIZES, ALL, (0,), value), False)
             self.assertIs(is_nonzero_product(LOOP, SIZES, ALL, (0,), (value, Ratio(1, 2))), False)
             self.assertIs(is_nonzero_product(LOOP, SIZES, ALL, (0,), ([value], Ratio(1, 2))), False)
-            self.assertIs(is_nonzero_product(LOOP, SIZES, ALL, (0,), ([("A", value), ("A", (0, 0))], Ratio(1, 2))), False)
+            self.assertIs(is_nonzero_product(LOOP, SIZES, ALL, (0,), ([("A", value), ("A", (0, 0))], Ratio(1, 2))),
+                          False)
         good = [("A", (0, 0)), ("A", (0, 0))]
         self.assertIs(is_nonzero_product(LOOP, SIZES, ALL, (0,), (good, Ratio(1, 2))), True)
-        self.assertIs(is_nonzero_product(LOOP, SIZES, ALL, (0,), ([("A", (False, 0)), ("A", (0, 0))], Ratio(1, 2))), False)
+        for letter in ((["A"], (0, 0)), ({}, (0, 0)), ("A", [0, 0]), ("A", ([], 0)), ("A",), ["A", (0, 0)]):
+            self.assertIs(is_nonzero_product(LOOP, SIZES, ALL, (0,), ([letter, letter], Ratio(1, 2))), False)
+            self.assertIsNone(parting_stores(LOOP, SIZES, ALL, *letter) if len(letter) == 2 and isinstance(letter,
+                    tuple) else None)
+        self.assertIs(is_nonzero_product(LOOP, SIZES, ALL, (0,), ([("A", (False, 0)), ("A", (0, 0))], Ratio(1, 2))),
+                      False)
         for value in wrong_values():
             if value != Ratio(1, 2):
                 self.assertIs(is_nonzero_product(LOOP, SIZES, ALL, (0,), (good, value)), False)
@@ -301,9 +312,15 @@ class ErrorsTest(Case):
             self.refuses(UnknownSort, {"name": "x"}, call, lone, {"r": 1}, None, None)
             for value in (None, True, 3, "x", {}, A, {A.name: []}):
                 self.refuses(InvalidPatterns, {"position": None}, call, LOOP, SIZES, value, None)
-            for value in wrong_values() + [A, (A, None), (A, [(0, 2)]), (A, [(0,)]), (A, [[0, 1]]), (A, [(0, True)]), [A, []],
-                                           (A, [], 1), (A, {(0, 1): 1}), (A, [(0, -1)]), (Table("Z", ["q"]), [(0,)]), (T, [])]:
-                self.refuses(InvalidPatterns, {"position": 2}, call, LOOP, SIZES, [(T, [(1, 1)]), (Table("A", ["r"]), []), value],
+            new = Table("N", ["r", "r"])
+            for value in wrong_values() + [new, (new, None), (new, [(0, 2)]), (new, [(0,)]), (new, [[0, 1]]),
+                                           (new, [(0, True)]),
+                                           [new, []], (new, [], 1), (new, {(0, 1): 1}), (new, [(0, -1)]),
+                                           (new, [(0, 1), (0, 1, 0)]),
+                                           (Table("Z", ["q"]), [(0,)]), (T, []), ("N", []), (None, [(0, 1)]),
+                                           (Thing(), ()), (A, [])]:
+                self.refuses(InvalidPatterns, {"position": 2}, call, LOOP, SIZES,
+                             [(T, [(1, 1)]), (Table("A", ["r"]), []), value],
                              None)
             self.refuses(EmptyEntry, {"position": 1, "places": (1, 1)}, call, LOOP, SIZES,
                          [(Table("A", ["r"]), [(0,)]), (T, [(0, 1), (1, 1), (0, 0)])], None)
@@ -321,7 +338,8 @@ class ErrorsTest(Case):
             sizes = {"r": 7, "t": 20000 // 49}
             self.assertIn(call(total, sizes, [], (0,)), (None, [], False))
             self.assertIn(call(total, {"r": 100, "t": 2}, [], (0,)), (None, [], False))
-            self.assertIn(call(total, {"r": 1000, "t": 0}, [], (0,)) if word in ("places", "classes") else [], (None, [], False))
+            self.assertIn(call(total, {"r": 1000, "t": 0}, [], (0,)) if word in ("places", "classes") else [],
+                          (None, [], False))
             self.refuses(TooMany, {"kind": "assignments", "limit": 20000}, call, total, {"r": 7, "t": 409}, [], (0,))
             if word not in ("places", "classes", "parting"):
                 self.refuses(InvalidPlaces, {"value": None}, call, total, {"r": 7, "t": 409}, [], None)
