@@ -120,6 +120,16 @@ def set_size(held, command, words):
     return DONE, after
 
 
+def without_noughts(numbers):
+    """The entries by table name, without those that are 0, and without the tables that have no others."""
+    kept = {}
+    for name, rows in numbers.items():
+        own = {places: rows[places] for places in rows if rows[places].sign != 0}
+        if own:
+            kept[name] = own
+    return kept
+
+
 def set_entry(held, command, words):
     """`entry NAME NUMBER COUNT COUNT ..`"""
     number = read_number(words[2]) if len(words) > 2 else None
@@ -131,14 +141,11 @@ def set_entry(held, command, words):
     former = table.class_of(places)
     own = held.numbers.get(table.name, {})
     rows = {other: own[other] for other in own if other not in former}
-    if number.sign != 0:
-        rows[places] = number
-    numbers = {name: held.numbers[name] for name in held.numbers if name != table.name}
-    if rows:
-        numbers[table.name] = rows
-    after = with_part(held, numbers=numbers)
+    rows[places] = number
+    after = with_part(held, numbers={**held.numbers, table.name: rows})
+    # The store refuses places that it does not have whatever the number is, so a 0 is left out only behind it.
     after.whole_store()
-    return DONE, after
+    return DONE, with_part(held, numbers=without_noughts(after.numbers))
 
 
 def ask_form(held, command, words):

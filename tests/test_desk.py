@@ -131,8 +131,39 @@ class CommandsTest(DeskCase):
         self.refuses(InvalidEntry, {"position": 0, "places": (0, 1)}, one.do, "size row 1")
         one.do_all(["entry A 0 0 1", "entry A 0 1 0", "entry S 0 0 1", "entry T 0 0 1", "size row 0"])
         self.assertEqual(one.do("value tr"), "-1/2")
-        # An entry that is set to 0 beyond the sizes is as one that was never set.
-        self.assertEqual(one.do_all(["entry A 0 5 5", "entry T 0 9 9", "size row 1", "entry B 0 4 4"]), ["done"] * 4)
+        again = Desk()
+        self.assertEqual(again.do_all(["size s 2", "table A: s, s", "entry A 5 0 1", "entry A 0 0 1", "size s 1"]),
+                         ["done"] * 5)
+
+    def test_entries_of_nought(self):
+        """An entry of 0 at places that the store has, also of an empty class, is as one that was never set."""
+        one = Desk()
+        one.do_all(["size s 3", "table A: s, s", "table S: s, s; turn 1 0 +", "table T: s, s; turn 1 0 -"])
+        self.assertEqual(one.do_all(["entry T 0 2 2", "entry A 0 2 2", "entry S 0 2 1", "entry T 0 2 0"]), ["done"] * 4)
+        # None of these tables has entries by that, so the position is that of the only one with an entry.
+        self.refuses(InvalidEntry, {"position": 0, "places": (1, 1)}, one.do, "entry T 1 1 1")
+        one.do_all(["entry A 5 2 1", "entry S 5 1 2", "entry T 5 2 1", "entry T 7 0 1"])
+        self.refuses(InvalidEntry, {"position": 0, "places": (2, 1)}, one.do, "size s 2")
+        self.assertEqual(one.do_all(["entry A 0 2 1", "entry S 0 2 1", "entry T 0 1 2", "size s 2"]), ["done"] * 4)
+        one.do("define t: s, s = 1 [i, j] T[i, j]")
+        self.assertEqual(one.do_all(["size s 3", "value t 0 1", "value t 1 2"]), ["done", "7", "0"])
+
+    def test_entries_of_nought_beyond(self):
+        """An entry of 0 at places that the store does not have raises the error of a number other than 0."""
+        for number in ("0", "5", "-1/2"):
+            # The table counts as one with entries, for the position, also if it has none yet or would have none.
+            for line, position, places in (("A {} 0 2", 0, (0, 2)), ("A {} 2 0", 0, (2, 0)), ("B {} 2 0", 1, (2, 0)),
+                                           ("B {} 0 3", 1, (0, 3)), ("S {} 2 2", 2, (2, 2)), ("S {} 2 0", 2, (2, 0)),
+                                           ("T {} 0 2", 3, (0, 2)), ("T {} 2 2", 3, (2, 2)), ("T {} 9 1", 3, (9, 1))):
+                told = {"position": position, "places": places}
+                self.refuses_all(InvalidEntry, told, "entry " + line.format(number))
+            one = Desk()
+            one.do_all(["size s 1", "table A: s", "table B: s", "table C: s", "entry C 4 0"])
+            self.refuses(InvalidEntry, {"position": 0, "places": (1,)}, one.do, f"entry B {number} 1")
+            one.do("entry A 4 0")
+            self.refuses(InvalidEntry, {"position": 1, "places": (1,)}, one.do, f"entry B {number} 1")
+            one.do_all(["entry A 0 0", "entry C 0 0", "size s 0"])
+            self.refuses(InvalidEntry, {"position": 0, "places": (0,)}, one.do, f"entry B {number} 0")
 
     def test_position_of_tables_with_entries(self):
         """The store has the tables with entries, by name: those of which all entries were set to 0 are left out."""
@@ -272,14 +303,18 @@ class ErrorsTest(DeskCase):
     def test_sizes_that_are_missing(self):
         one = Desk()
         one.do_all(["table B: row, col", "define all: = 1 [] B[i, x]", "define lone: zone = 1 [z]"])
-        self.refuses(UnknownSort, {"name": "row"}, one.do, "entry B 1 0 0")
+        for number in ("1", "0"):
+            self.refuses(UnknownSort, {"name": "row"}, one.do, f"entry B {number} 0 0")
+            self.refuses(InvalidPlaces, {"value": (0,)}, one.do, f"entry B {number} 0")
         self.refuses(UnknownSort, {"name": "col"}, one.do, "value all")
         self.refuses(UnknownSort, {"name": "zone"}, one.do, "value lone 0")
-        self.assertEqual(one.do("entry B 0 0 0"), "done")
         one.do("size row 1")
-        self.refuses(UnknownSort, {"name": "col"}, one.do, "entry B 1 0 0")
+        for number in ("1", "0"):
+            self.refuses(UnknownSort, {"name": "col"}, one.do, f"entry B {number} 0 0")
+            # The first slot without a size comes ahead of places that are not below the sizes.
+            self.refuses(UnknownSort, {"name": "col"}, one.do, f"entry B {number} 7 0")
         self.assertEqual(one.do_all(["size col 1", "entry B 1 0 0", "value all"]), ["done", "done", "1"])
-        self.assertEqual(len(one.log()), 7)
+        self.assertEqual(len(one.log()), 6)
 
     def test_sequence(self):
         """A command that is none comes ahead of a name that is taken or unknown, this ahead of other errors."""
